@@ -3,7 +3,7 @@
 from itertools import combinations
 
 from evenfriends.errors import InvalidChange, InvalidChanges, InvalidCompany, InvalidCount, InvalidNames
-from evenfriends.errors import InvalidPair, InvalidPairs, InvalidPeople, InvalidPerson
+from evenfriends.errors import InvalidPair, InvalidPairs, InvalidPeople, InvalidPerson, Unlike
 from evenfriends.forms import are_unlike, is_count, is_word
 
 
@@ -49,9 +49,17 @@ def are_people(value):
     return all([is_person(person) for person in value]) and are_unlike(value)
 
 
+def are_people_of(people, value):
+    """Tell whether any object is a list, not empty, of unlike people who are among some people, in any order."""
+    return are_people(value) and all([person in people for person in value])
+
+
 def is_pair_of(people, value):
     """Tell whether any object is a pair of two of some people."""
-    return is_pair(value) and value[0] in people and value[1] in people
+    if not isinstance(value, tuple) or len(value) != 2:
+        return False
+    # What is equal to one of the people is a word, so the two can be ordered.
+    return value[0] in people and value[1] in people and value[0] < value[1]
 
 
 def are_pairs_of(people, value):
@@ -65,6 +73,19 @@ def check_company(company):
     """Raise InvalidCompany unless any object is a company."""
     if not isinstance(company, Company):
         raise InvalidCompany(company)
+
+
+def check_two(one, other):
+    """Raise InvalidCompany unless both are companies, and then Unlike unless they are of the same people."""
+    check_company(one)
+    check_company(other)
+    if one.people() != other.people():
+        raise Unlike(other)
+
+
+def is_company_like(company, value):
+    """Tell whether any object is a company of the people of a company."""
+    return isinstance(value, Company) and value.people() == company.people()
 
 
 def check_person_of(company, person):
@@ -222,8 +243,7 @@ def side_by_side(one, other):
 def cut_to(company, people):
     """Return the company of some of its people, with those friends that are left."""
     check_company(company)
-    known = company.people()
-    if not are_people(people) or not all([person in known for person in people]):
+    if not are_people_of(company.people(), people):
         raise InvalidPeople(people)
     return kept_among(company, people)
 

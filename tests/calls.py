@@ -1,14 +1,15 @@
 """Every function of the landed modules, with right arguments, and for each argument the wrong ones and their error."""
 
 import copy
+import itertools
 
-from evenfriends import companies, triples
+from evenfriends import anyway, companies, evens, lones, manners, odds, roads, ties, triples
 from evenfriends.companies import Company
 from evenfriends.errors import (
-    InvalidChange, InvalidChanges, InvalidCompany, InvalidCount, InvalidNames, InvalidPair, InvalidPairs, InvalidPeople,
-    InvalidPerson,
+    InvalidChange, InvalidChanges, InvalidCompanies, InvalidCompany, InvalidCount, InvalidLabels, InvalidManner,
+    InvalidNames, InvalidPair, InvalidPairs, InvalidPeople, InvalidPerson, InvalidRoad, InvalidTally,
 )
-from tests import support
+from tests import plain, support
 
 FOUR = ["a", "b", "c", "d"]
 
@@ -32,9 +33,26 @@ class Argument:
         return found + [copy.deepcopy(value) for value in self.near]
 
 
+class Judged(Argument):
+    """A last parameter `value`: any object, no error."""
+
+    def __init__(self, rights):
+        Argument.__init__(self, "value", None, rights, lambda value: True)
+
+    def wrongs(self):
+        return []
+
+
 def a_company(name="company"):
     near = [([], []), (["a", "b"], []), {"people": ["a"]}, [square()], (square(),), [["a"], []]]
     return Argument(name, InvalidCompany, [square()], support.is_company, near)
+
+
+def a_second(rights):
+    """The second of two companies of the same people; unlike ones are tried in tests of their own."""
+    company = a_company("other")
+    company.rights = rights
+    return company
 
 
 def a_person():
@@ -169,6 +187,180 @@ def an_other():
     return company
 
 
+def a_manner(rights=(plain.EVEN, plain.ODD, ((), "even"), ((0, 1, 2), "odd"), ((0,), "odd")), name="manner"):
+    near = [
+        ((2,), "Even"), ((2,), ""), ((2,), None), ((2,), True), ((2,), ["even"]), ((2,), ("even",)), ([2], "even"),
+        [(2,), "even"], (2, "even"), ((3,), "even"), ((-1,), "even"), ((2, 1), "even"), ((1, 1), "even"),
+        ((True,), "even"), ((False, 2), "odd"), ((0, True), "odd"), (("2",), "even"), ((None,), "even"),
+        (((2,),), "even"), ((2,),), ((2,), "even", "odd"), ("even", (2,)), ({}, "even"), ({2: 2}, "even"), "even",
+        ((0, 1, 2, 3), "even"), ((2, [1]), "even"), ((10 ** 29,), "odd"), {(2,): "even"}, [((2,), "even")],
+    ]
+    return Argument(name, InvalidManner, list(rights), is_manner, near)
+
+
+def is_manner(value):
+    return support.frozen(value) in [support.frozen(manner) for manner in plain.MANNERS]
+
+
+def a_word():
+    near = ["Even", " odd", "odd ", ["even"], ("odd",), ((1,), "even"), {"even": "odd"}, "evenodd"]
+    return Argument("word", InvalidManner, ["even", "odd"], lambda value: value in ["even", "odd"], near)
+
+
+def a_number_of_people(rights=(1, 2, 3, 4, 9, 14)):
+    near = [-1, [1], (1,), "1", {1: 1}]
+    return Argument("many", InvalidCount, list(rights), lambda value: type(value) is int and value >= 1, near)
+
+
+def a_count(name, rights):
+    return Argument(name, InvalidCount, rights, lambda value: type(value) is int and value >= 0, [-1, [0], (0,), "0"])
+
+
+def a_tally():
+    near = [
+        ([3], False), [(3,), False], ((3,), 0), ((3,), 1), ((3,), None), ((4,), True), ((-1,), True), ((3, 2), False),
+        ((1, 1), False), ((True,), False), ((0, True), False), ((3,),), ((3,), False, True), (3, False),
+        (((3,),), False), (("3",), False), ((3,), "False"), ({3: 3}, True), ((0, 1, 2, 3, 4), True), (False, (3,)),
+        ((False, 2), True), ((3,), [True]),
+    ]
+    rights = [((), False), ((3,), True), ((0, 1, 2, 3), False)]
+    return Argument("tally", InvalidTally, rights, is_tally, near)
+
+
+def all_tallies():
+    lots = [lot for size in range(5) for lot in itertools.combinations(range(4), size)]
+    return sorted((lot, flag) for lot in lots for flag in [False, True])
+
+
+def is_tally(value):
+    return support.frozen(value) in [support.frozen(tally) for tally in all_tallies()]
+
+
+def is_ascending_pairs(value):
+    return support.is_pairs_among(FOUR)(value) and value == sorted(value)
+
+
+def ascending_pairs():
+    near = [
+        [("a", "c"), ("a", "b")], [("a", "b"), ("a", "b")], (("a", "b"),), {("a", "b"): 1}, [("a", "e")], [["a", "b"]],
+        [("a", "b"), ("b", "a")], [("a", "b"), None], [("a", ["b"])], [[("a", "b")]], ("a", "b"),
+    ]
+    rights = [[], [("a", "b"), ("a", "c"), ("c", "d")], list(itertools.combinations(FOUR, 2))]
+    return Argument("pairs", InvalidPairs, rights, is_ascending_pairs, near)
+
+
+def is_road_of_square(value):
+    if type(value) is not list or not all(support.is_pair_among(FOUR)(one) for one in value):
+        return False
+    return plain.walked(square(), plain.EVEN, value) is not None
+
+
+ROAD = [("a", "b"), ("c", "d"), ("a", "c"), ("a", "c")]
+
+
+def a_road(rights=([], ROAD, [("a", "c"), ("a", "c"), ("b", "d")])):
+    """A road at the square under common friends even."""
+    near = [
+        (("a", "b"),), {("a", "b"): 1}, [["a", "b"]], [("b", "a")], [("a", "e")], [("a", "b"), None], ["ab"], "ab",
+        [("a", "b"), ["c", "d"]], [("a", "b", "c")], [("a", ["b"])], [[("a", "b")]], [("a", "c"), ("a", "b")],
+        [("a", "b"), ("c", "d"), ("a", "c"), ("a", "c"), ("e", "f")], [("a", "c"), ("b", "d"), ("a", "d"), ("a", 1)],
+    ]
+    return Argument("road", InvalidRoad, list(rights), is_road_of_square, near)
+
+
+def just_even():
+    return a_manner([plain.EVEN])
+
+
+def is_companies(value):
+    return type(value) is list and all(type(one) is Company and one.people() == FOUR for one in value)
+
+
+WRONG_LOTS = [
+    [Company(["a", "b", "c"], [])], (Company(["a"], []),), {"a": Company(["a"], [])}, ["a"], [None],
+]
+
+
+def companies_like_square():
+    near = WRONG_LOTS + [(square(),), [square(), None], [square(), [square()]], [square(), Company(["a"], [])]]
+    return Argument("others", InvalidCompanies, [[], [square(), Company(FOUR, [])]], is_companies, near)
+
+
+def is_companies_alike(value):
+    if type(value) is not list or value == [] or not all(type(one) is Company for one in value):
+        return False
+    return all(one.people() == value[0].people() for one in value)
+
+
+def companies_alike():
+    near = [[square(), Company(["a", "b", "c"], [])], (square(),), [square(), None], [[square()]], {"a": square()}]
+    return Argument("companies", InvalidCompanies, [[square(), Company(FOUR, []), square()]], is_companies_alike, near)
+
+
+def is_ascending_people(value):
+    return value == [] and type(value) is list or support.is_people_among(FOUR)(value) and value == sorted(value)
+
+
+def people_of_square(name, rights, many):
+    """A list of just so many people of the square, ascending but for `four`, or of any number."""
+    def is_right(value):
+        if name == "four":
+            return support.is_people_among(FOUR)(value) and len(value) == 4
+        return is_ascending_people(value) and (many is None or len(value) == many)
+
+    near = [
+        ["a", "b", "e"], ["a", "b", "b"], ("a", "b", "c"), ("a", "b", "c", "d"), "abc", ["c", "b", "a"], ["b", "a"],
+        ["a", "b", "c", "e"], ["a", "b", "c", "c"], ["a", "b", ["c"]], [["a", "b", "c"]], ["a", "b", "c", None],
+        {"a": 1, "b": 1, "c": 1}, ["a", "b", 3], [("a", "b")], ["a", "b", "c", "d", "e"], ["a", "b", "C"],
+    ]
+    return Argument(name, InvalidPeople, rights, is_right, [one for one in near if not is_right(one)])
+
+
+def is_labels(value):
+    if type(value) is not dict or not value or not all(support.is_word(one) for one in value):
+        return False
+    labels = list(value.values())
+    if not all(type(label) is tuple and all(type(one) is int and one in (0, 1) for one in label) for label in labels):
+        return False
+    return len({len(label) for label in labels}) == 1
+
+
+def some_labels(rights, is_right):
+    near = [
+        {"a": [0, 1]}, {"a": (0, 1), "b": (0, 1, 0)}, {"a": (0, 2)}, {"a": (0, True)}, {"a": (False, 1)}, {"a": "01"},
+        {"A": (0, 1)}, {1: (0, 1)}, {("a",): (0, 1)}, {"a": (0, -1)}, {"a": ((0, 1),)}, {"a": (0, "1")}, {"a": None},
+        [("a", (0, 1))], (("a", (0, 1)),), {"a": (0, 1), "b": ()}, {"a": (0, 1), None: (0, 1)}, {"a": {0: 0, 1: 1}},
+        {"a": (1, 0), "b": (0,)}, {"a": (1,), "b": [1]}, {"a": 1}, {"a": (0, 1), "b": (1, [0])}, {"a": (0, None)},
+    ]
+    return Argument("labels", InvalidLabels, rights, is_right, near)
+
+
+def crossing():
+    argument = some_labels(
+        [{"b": (1, 0), "a": (0, 1)}, {"a": ()}, {"d": (1, 1, 0, 1), "a": (0, 1, 1, 0), "c": (0, 0, 0, 0)}],
+        lambda value: is_labels(value) and all(len(label) % 2 == 0 for label in value.values()),
+    )
+    argument.near += [{"a": (0,)}, {"a": (0, 1, 1)}, {"a": (1,), "b": (0,)}]
+    return argument
+
+
+def sharing():
+    argument = some_labels(
+        [{"b": (1, 0), "a": (0, 1)}, {"a": (1,)}, {"d": (1, 1, 1), "a": (0, 1, 0)}],
+        lambda value: is_labels(value) and all(sum(label) % 2 for label in value.values()),
+    )
+    argument.near += [{"a": (0,)}, {"a": ()}, {"a": (0, 1), "b": (1, 1)}, {"a": (1, 0), "b": (0, 0)}]
+    return argument
+
+
+LIKE_SQUARE = [square(), Company(FOUR, []), Company(FOUR, [("a", "b"), ("a", "c"), ("b", "c")])]
+
+
+def an_at():
+    near = [3, 4, -1, [0], (0,), "0"]
+    return Argument("at", InvalidCount, [0, 1, 2], support.is_number_below(3), near)
+
+
 # Each function with its arguments, in the order of its parameters.
 CALLS = [
     (Company, [free_people(), some_friends()]),
@@ -196,7 +388,108 @@ CALLS = [
     (triples.kinds_moved, [a_company(), a_pair()]),
     (triples.odd_pairs, [a_company(), a_kind()]),
     (triples.odd_friends, [a_company(), a_person(), a_kind()]),
+    (manners.counted_people, [a_company(), a_manner(), a_pair()]),
+    (manners.is_let, [a_company(), a_manner(), a_pair()]),
+    (manners.let_pairs, [a_company(), a_manner()]),
+    (manners.manners_letting, [a_company(), ascending_pairs()]),
+    (manners.is_kept, [a_manner(), Judged([((3,), False), ((), True), None])]),
+    (manners.kept_counts, [a_manner()]),
+    (manners.parity_of, [a_company(), a_tally()]),
+    (manners.are_alike, [a_manner(name="one"), a_manner(plain.MANNERS, "other"), a_number_of_people()]),
+    (manners.alike_manners, [a_manner(), a_number_of_people()]),
+    (manners.parting_company, [
+        a_manner(name="one"), a_manner(plain.MANNERS, "other"), a_number_of_people([3, 1, 2, 4, 5, 9]),
+    ]),
+    (manners.is_parting_company, [
+        a_manner(name="one"), a_manner(plain.MANNERS, "other"), a_number_of_people([4, 1, 14]), Judged([square(), None]),
+    ]),
+    (manners.opposite_manner, [a_manner(plain.MANNERS)]),
+    (manners.real_manner, [a_manner(plain.MANNERS), a_number_of_people()]),
+    (manners.lets_all, [a_manner(plain.MANNERS), a_number_of_people()]),
+    (manners.lets_none, [a_manner(plain.MANNERS), a_number_of_people()]),
+    (manners.let_number, [a_company(), a_manner()]),
+    (manners.freed_by, [a_company(), a_manner([plain.EVEN, ((), "even")]), a_pair()]),
+    (roads.is_road, [a_company(), a_manner(), Judged([[], ROAD, [("a", "b")] * 3, None])]),
+    (roads.led, [a_company(), just_even(), a_road()]),
+    (roads.companies_on, [a_company(), just_even(), a_road()]),
+    (roads.differing_pairs, [a_company("one"), a_second(LIKE_SQUARE)]),
+    (roads.leads_to, [a_company("one"), a_second(LIKE_SQUARE), a_manner(), Judged([[], ROAD, None])]),
+    (roads.road_back, [a_company(), just_even(), a_road()]),
+    (roads.cut_short, [a_company(), just_even(), a_road()]),
+    (roads.exchanged, [a_company(), just_even(), a_road([ROAD]), an_at()]),
+    (roads.least_road, [a_company(), just_even(), a_road()]),
+    (roads.same_but_order, [a_company(), just_even(), a_road([ROAD]), Judged([ROAD, [], None])]),
+    (roads.roads_of, [a_company(), a_manner(), a_count("size", [0, 1, 3, 5])]),
+    (roads.road_at, [a_company(), just_even(), a_count("size", [2]), a_number(20)]),
+    (roads.road_place, [a_company(), just_even(), a_road()]),
+    (evens.odd_one, [a_company()]),
+    (evens.even_mark, [a_company()]),
+    (evens.joined_evenly, [a_company("one"), a_second(LIKE_SQUARE)]),
+    (evens.even_parting, [a_company("one"), a_second(LIKE_SQUARE)]),
+    (evens.fewest_evenly, [a_company()]),
+    (evens.least_evenly, [a_company()]),
+    (evens.is_least_evenly, [a_company(), Judged([Company(FOUR, []), square(), None])]),
+    (evens.always_and_never, [a_company()]),
+    (evens.lessening, [a_company()]),
+    (evens.is_lessening, [a_company(), Judged([[("a", "b")], [], None])]),
+    (evens.even_road, [a_company("one"), a_second(LIKE_SQUARE)]),
+    (evens.is_even_road, [a_company("one"), a_second(LIKE_SQUARE), Judged([[], ROAD, None])]),
+    (evens.joined_among, [a_company(), companies_like_square()]),
+    (evens.grouped_evenly, [companies_alike()]),
+    (odds.parts_of, [a_company()]),
+    (odds.odd_marks, [a_company()]),
+    (odds.joined_oddly, [a_company("one"), a_second(LIKE_SQUARE)]),
+    (odds.odd_parting, [a_company("one"), a_second(LIKE_SQUARE)]),
+    (odds.fewest_oddly, [a_company()]),
+    (odds.least_oddly, [a_company()]),
+    (odds.is_least_oddly, [a_company(), Judged([square(), None])]),
+    (odds.headed, [a_company()]),
+    (odds.is_headed, [a_company(), Judged([square(), None])]),
+    (odds.odd_road, [a_company("one"), a_second(LIKE_SQUARE)]),
+    (odds.is_odd_road, [a_company("one"), a_second(LIKE_SQUARE), Judged([[], ROAD, None])]),
+    (odds.oddly_bound, [a_company()]),
+    (ties.tie_mark, [a_company(), a_word()]),
+    (ties.tie_joined, [a_company("one"), a_second(LIKE_SQUARE), a_word()]),
+    (ties.tie_road, [a_company("one"), a_second(LIKE_SQUARE), a_word()]),
+    (ties.square_road, [a_company(), people_of_square("four", [FOUR, ["c", "a", "b", "d"]], 4)]),
+    (ties.is_square_road, [a_company(), people_of_square("four", [FOUR], 4), Judged([[], ROAD, None])]),
+    (ties.moving_road, [a_company(), people_of_square("people", [[], ["a", "b"], FOUR], None)]),
+    (ties.is_moving_road, [a_company(), people_of_square("people", [[], ["a", "b"]], None), Judged([[], None])]),
+    (ties.triangle_road, [a_company(), people_of_square("three", [["a", "b", "c"], ["a", "c", "d"]], 3)]),
+    (ties.is_triangle_road, [a_company(), people_of_square("three", [["a", "b", "c"]], 3), Judged([[], None])]),
+    (anyway.joined, [a_company("one"), a_second(LIKE_SQUARE), a_manner(plain.MANNERS)]),
+    (anyway.road_between, [a_company("one"), a_second(LIKE_SQUARE), a_manner(plain.MANNERS)]),
+    (anyway.why_apart, [a_company("one"), a_second(LIKE_SQUARE), a_manner(plain.MANNERS)]),
+    (anyway.is_why_apart, [a_company("one"), a_second(LIKE_SQUARE), a_manner(plain.MANNERS), Judged(["count", None])]),
+    (anyway.fewest_deeds, [a_company("one"), a_second(LIKE_SQUARE), a_manner(plain.MANNERS)]),
+    (anyway.shortest_road, [a_company("one"), a_second(LIKE_SQUARE), a_manner(plain.MANNERS)]),
+    (anyway.is_shortest_road, [a_company("one"), a_second(LIKE_SQUARE), a_manner(), Judged([[], None])]),
+    (anyway.class_of, [a_company(), a_manner()]),
+    (anyway.class_by_deeds, [a_company(), a_manner()]),
+    (anyway.deeds_to_friends, [a_company(), a_manner(), a_pair()]),
+    (anyway.road_to_friends, [a_company(), a_manner(), a_pair()]),
+    (anyway.is_road_to_friends, [a_company(), a_manner(), a_pair(), Judged([[], [("a", "c")], None])]),
+    (anyway.farthest_in_class, [a_company(), a_manner()]),
+    (anyway.shared_class, [a_company(), a_manner(), a_manner(name="newer")]),
+    (lones.is_lone, [a_company(), a_manner()]),
+    (lones.some_let, [a_company(), a_manner()]),
+    (lones.lone_halves, [a_company()]),
+    (lones.crossing_labels, [a_company()]),
+    (lones.are_crossing_labels, [a_company(), Judged([{"a": (1, 0), "b": (0, 1), "c": (1, 0), "d": (0, 1)}, None])]),
+    (lones.sharing_labels, [a_company()]),
+    (lones.are_sharing_labels, [a_company(), Judged([{"a": (1,)}, None])]),
+    (lones.crossing_company, [crossing()]),
+    (lones.sharing_company, [sharing()]),
+    (lones.are_even, [some_labels([{"b": (1, 0), "a": (0, 1)}, {"a": ()}, {"b": (1,), "a": (1,)}], is_labels)]),
+    (lones.lone_parts, [a_company()]),
+    (lones.strangers_lone, [a_company()]),
+    (lones.lone_companies, [free_people(), a_manner()]),
+    (lones.lone_at, [free_people(), a_manner([plain.ODD, plain.TIES_ODD]), a_number(14)]),
+    (lones.lone_place, [a_company(), a_manner()]),
 ]
+
+# The functions of two companies that have to be of the same people.
+OF_TWO = [row for row in CALLS if [one.name for one in row[1]][:2] == ["one", "other"] and row[1][1].rights is LIKE_SQUARE]
 
 
 def right_calls():

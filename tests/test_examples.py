@@ -32,7 +32,155 @@ kinds_moved(Company(["a", "b", "c"], [("a", "b")]), ("a", "b"))
 # [(('a', 'c'), 'b', 1, 0), (('b', 'c'), 'a', 1, 0)]
 '''
 
-BLOCKS = [("3", SECTION_3, 4), ("4", SECTION_4, 4)]
+SECTION_5 = '''
+from evenfriends.companies import Company, opposite
+from evenfriends.manners import alike_manners, are_alike, counted_people, freed_by, is_kept, kept_counts, let_number, let_pairs, lets_all, lets_none, manners_letting, opposite_manner, parity_of, real_manner
+abc = ["a", "b", "c"]
+lone_pair = Company(abc, [("a", "b")])
+triangle = Company(abc, [("a", "b"), ("a", "c"), ("b", "c")])
+square = Company(["a", "b", "c", "d"], [("a", "b"), ("a", "d"), ("b", "c"), ("c", "d")])
+even, odd, ties = ((2,), "even"), ((2,), "odd"), ((1,), "odd")
+[let_pairs(triangle, even), let_pairs(triangle, odd), let_pairs(lone_pair, even), let_pairs(lone_pair, ties), counted_people(square, even, ("a", "c"))]
+# [[], [('a', 'b'), ('a', 'c'), ('b', 'c')], [('a', 'b'), ('a', 'c'), ('b', 'c')], [('a', 'c'), ('b', 'c')], ['b', 'd']]
+[is_kept(even, ((3,), False)), is_kept(odd, ((3,), True)), is_kept(odd, ((3,), False)), is_kept(ties, ((2, 3), True)), parity_of(square, ((3,), True)), parity_of(triangle, ((3,), False))]
+# [True, True, False, True, 0, 1]
+kept_counts(even)
+# [((), False), ((0, 1, 2), False), ((0, 1, 2, 3), False), ((3,), False)]
+[are_alike(((0, 1), "even"), even, 4), are_alike(((0, 1), "even"), even, 5), alike_manners(even, 5), alike_manners(even, 2)[:2]]
+# [True, False, [((0, 1), 'odd'), ((2,), 'even')], [((), 'even'), ((0,), 'even')]]
+[opposite_manner(((0, 1), "odd")), real_manner(((0, 1), "even"), 5), real_manner(((1, 2), "even"), 4), real_manner(((0, 1, 2), "even"), 5)]
+# [((1, 2), 'odd'), (((2,), 'odd'), False), (((2,), 'even'), True), (((), 'odd'), False)]
+[lets_all(((0, 1, 2), "even"), 4), lets_none(((0, 1, 2), "even"), 5), lets_all(even, 2), lets_none(even, 1)]
+# [True, True, True, True]
+[let_number(lone_pair, ties), freed_by(lone_pair, ties, ("a", "c")), freed_by(square, even, ("a", "b")), len(manners_letting(triangle, []))]
+# [2, 0, -2, 8]
+'''
+
+SECTION_6 = '''
+from evenfriends.companies import Company
+from evenfriends.roads import companies_on, cut_short, differing_pairs, exchanged, is_road, leads_to, least_road, led, road_at, road_back, road_place, roads_of, same_but_order
+abc, even, odd = ["a", "b", "c"], ((2,), "even"), ((2,), "odd")
+none, path = Company(abc, []), Company(abc, [("a", "b"), ("b", "c")])
+[is_road(none, even, [("a", "b"), ("b", "c")]), is_road(none, even, [("a", "b"), ("b", "c"), ("a", "c")]), is_road(path, odd, [("a", "c"), ("a", "b")]), is_road(path, odd, [("a", "b")])]
+# [True, False, True, False]
+[led(none, even, [("a", "b"), ("b", "c")]) == path, differing_pairs(none, path), leads_to(none, path, even, [("a", "c"), ("b", "c"), ("a", "c"), ("a", "b")]), len(companies_on(none, even, [("a", "b")]))]
+# [True, [('a', 'b'), ('b', 'c')], True, 2]
+[road_back(none, even, [("a", "b"), ("b", "c")]), cut_short(none, even, [("a", "c"), ("a", "c"), ("a", "b")]), exchanged(path, odd, [("a", "c"), ("a", "b")], 0)]
+# [[('b', 'c'), ('a', 'b')], [('a', 'b')], None]
+[[roads_of(none, even, size) for size in [0, 1, 2, 3, 4]], [roads_of(path, odd, size) for size in [0, 1, 2, 3, 4]], road_at(none, even, 2, 1), road_place(none, even, [("b", "c"), ("b", "c")])]
+# [[1, 3, 9, 21, 63], [1, 1, 3, 3, 9], [('a', 'b'), ('a', 'c')], 8]
+four = Company(["a", "b", "c", "d"], [])
+[least_road(four, even, [("c", "d"), ("b", "c"), ("a", "b"), ("c", "d")]), least_road(four, even, [("c", "d"), ("a", "b")]), same_but_order(four, even, [("c", "d"), ("a", "b")], [("c", "d"), ("a", "b")])]
+# [[('c', 'd'), ('b', 'c'), ('a', 'b'), ('c', 'd')], [('a', 'b'), ('c', 'd')], True]
+'''
+
+SECTION_7 = '''
+from evenfriends.companies import Company
+from evenfriends.evens import always_and_never, even_mark, even_parting, even_road, fewest_evenly, grouped_evenly, is_even_road, is_lessening, joined_among, joined_evenly, least_evenly, odd_one
+abc, abcd = ["a", "b", "c"], ["a", "b", "c", "d"]
+none, ab, triangle = Company(abc, []), Company(abc, [("a", "b")]), Company(abc, [("a", "b"), ("a", "c"), ("b", "c")])
+near = Company(abcd, [("a", "b"), ("a", "c"), ("b", "c"), ("c", "d")])
+square = Company(abcd, [("a", "b"), ("a", "d"), ("b", "c"), ("c", "d")])
+bow = Company(["a", "b", "c", "d", "e"], [("a", "b"), ("a", "c"), ("a", "d"), ("a", "e"), ("b", "c"), ("d", "e")])
+[even_mark(none), even_mark(triangle), even_mark(near), even_mark(square), even_mark(bow), odd_one(near), odd_one(bow)]
+# [('even',), ('lone',), ('nearly', 'd'), ('even',), ('lone',), 'd', None]
+[joined_evenly(none, ab), joined_evenly(ab, triangle), even_parting(ab, triangle), even_parting(near, square), joined_evenly(square, Company(abcd, []))]
+# [True, False, (('even',), ('lone',)), (('nearly', 'd'), ('even',)), True]
+[fewest_evenly(square), least_evenly(square).friends(), fewest_evenly(near), least_evenly(near).friends(), always_and_never(near)]
+# [0, [], 3, [('a', 'b'), ('a', 'c'), ('b', 'c')], ([('a', 'b'), ('a', 'c'), ('b', 'c')], [])]
+[is_even_road(none, ab, [("a", "b")]), is_even_road(none, ab, [("a", "b"), ("a", "c"), ("a", "c")]), is_even_road(none, triangle, [("a", "b"), ("a", "c"), ("b", "c")])]
+# [True, True, False]
+[is_lessening(square, [("a", "b")]), is_lessening(near, [("c", "d")]), even_road(triangle, none)]
+# [True, True, None]
+[joined_among(none, [ab, triangle, none]), grouped_evenly([ab, triangle, none])]
+# [[0, 2], [[0, 2], [1]]]
+'''
+
+SECTION_8 = '''
+from evenfriends.companies import Company
+from evenfriends.odds import fewest_oddly, headed, is_odd_road, is_headed, joined_oddly, least_oddly, odd_marks, odd_parting, odd_road, oddly_bound, parts_of
+abc, abcd = ["a", "b", "c"], ["a", "b", "c", "d"]
+path, triangle, ab = Company(abc, [("a", "b"), ("b", "c")]), Company(abc, [("a", "b"), ("a", "c"), ("b", "c")]), Company(abc, [("a", "b")])
+square, star = Company(abcd, [("a", "b"), ("a", "d"), ("b", "c"), ("c", "d")]), Company(abcd, [("a", "b"), ("a", "c"), ("a", "d")])
+[parts_of(ab), odd_marks(ab), odd_marks(path), odd_marks(triangle), odd_marks(square), odd_marks(star)]
+# [[['a', 'b'], ['c']], ['lone', 'lone'], ['even'], ['even'], ['lone'], ['odd']]
+[joined_oddly(path, triangle), odd_parting(path, ab), odd_parting(square, star), joined_oddly(square, square)]
+# [True, ('parts',), (['a', 'b', 'c', 'd'], 'lone', 'odd'), True]
+[fewest_oddly(triangle), len(least_oddly(triangle).friends()), fewest_oddly(square), is_headed(path, triangle), headed(square) == square]
+# [2, 2, 4, True, True]
+[is_odd_road(path, triangle, [("a", "c")]), odd_road(path, ab), oddly_bound(ab), oddly_bound(path)]
+# [True, None, ([('a', 'b')], [('a', 'c'), ('b', 'c')]), ([], [])]
+'''
+
+SECTION_9 = '''
+from evenfriends.companies import Company
+from evenfriends.ties import is_moving_road, is_square_road, is_triangle_road, moving_road, tie_joined, tie_mark, triangle_road
+abc = ["a", "b", "c"]
+none, one, path = Company(abc, []), Company(abc, [("a", "b")]), Company(abc, [("a", "b"), ("b", "c")])
+[tie_mark(none, "odd"), tie_mark(one, "odd"), tie_mark(path, "odd"), [tie_mark(company, "even") for company in [none, one, path]]]
+# [0, 2, 2, [0, 0, 1]]
+[tie_joined(none, one, "even"), tie_joined(one, path, "even"), tie_joined(one, path, "odd"), tie_joined(none, one, "odd")]
+# [True, False, True, False]
+four = ["a", "b", "c", "d"]
+[is_square_road(Company(four, []), four, [("a", "b"), ("c", "d"), ("b", "c"), ("a", "d")]), is_square_road(Company(four, []), four, [("a", "b"), ("b", "c"), ("c", "d"), ("a", "d")])]
+# [True, False]
+[moving_road(one, ["a", "c"]), is_moving_road(one, ["a", "b"], []), moving_road(none, []), moving_road(one, [])]
+# [[('b', 'c')], True, [], None]
+[is_triangle_road(one, abc, [("a", "c"), ("a", "b"), ("b", "c")]), is_triangle_road(one, abc, [("a", "c"), ("b", "c"), ("a", "b")]), triangle_road(none, abc)]
+# [True, False, None]
+'''
+
+SECTION_10 = '''
+from evenfriends.anyway import class_by_deeds, class_of, deeds_to_friends, farthest_in_class, fewest_deeds, is_shortest_road, is_why_apart, joined, road_to_friends, shared_class, why_apart
+from evenfriends.companies import Company
+abc, even, odd, far = ["a", "b", "c"], ((2,), "even"), ((2,), "odd"), ((0, 1), "odd")
+none, path = Company(abc, []), Company(abc, [("a", "b"), ("b", "c")])
+triangle = Company(abc, [("a", "b"), ("a", "c"), ("b", "c")])
+[joined(none, path, even), joined(none, triangle, even), joined(path, triangle, odd), joined(none, path, odd), joined(none, path, far), joined(none, triangle, ((), "even"))]
+# [True, False, True, False, True, True]
+[why_apart(none, triangle, even), why_apart(none, path, odd), why_apart(none, path, even), is_why_apart(none, triangle, even, "count"), is_why_apart(none, triangle, even, "parts")]
+# ['lone', 'lone', None, True, False]
+[class_by_deeds(none, even), class_by_deeds(path, even), class_by_deeds(path, odd), len(class_of(path, odd))]
+# [[1, 3, 3], [1, 2, 3, 1], [1, 1, 2], 4]
+square = Company(["a", "b", "c", "d"], [("a", "b"), ("a", "d"), ("b", "c"), ("c", "d")])
+[fewest_deeds(Company(["a", "b", "c", "d"], []), square, even), is_shortest_road(none, path, even, [("b", "c"), ("a", "b")]), deeds_to_friends(path, even, ("a", "c")), road_to_friends(triangle, even, ("a", "b")), deeds_to_friends(none, odd, ("a", "b"))]
+# [4, True, 2, [], None]
+[[company.friends() for company in farthest_in_class(none, even)], [company.friends() for company in shared_class(path, odd, ((1,), "even"))]]
+# [[[('a', 'b'), ('a', 'c')], [('a', 'b'), ('b', 'c')], [('a', 'c'), ('b', 'c')]], [[('a', 'b'), ('a', 'c')], [('a', 'b'), ('a', 'c'), ('b', 'c')], [('a', 'b'), ('b', 'c')], [('a', 'c'), ('b', 'c')]]]
+'''
+
+SECTION_11 = '''
+from evenfriends.companies import Company
+from evenfriends.lones import are_crossing_labels, are_even, are_sharing_labels, crossing_company, is_lone, lone_at, lone_companies, lone_halves, lone_parts, lone_place, sharing_company, some_let, strangers_lone
+abc = ["a", "b", "c"]
+one, triangle = Company(abc, [("a", "b")]), Company(abc, [("a", "b"), ("a", "c"), ("b", "c")])
+square = Company(["a", "b", "c", "d"], [("a", "b"), ("a", "d"), ("b", "c"), ("c", "d")])
+odd, even = ((2,), "odd"), ((2,), "even")
+[is_lone(one, odd), is_lone(one, even), some_let(one, even), is_lone(triangle, even), is_lone(square, odd)]
+# [True, False, ('a', 'b'), True, True]
+[half.people() for half in lone_halves(one)], lone_halves(triangle)
+# ([['c'], ['a', 'b']], None)
+labels = {"a": (1, 0), "b": (0, 1), "c": (1, 0), "d": (0, 1)}
+[are_crossing_labels(square, labels), are_even(labels), crossing_company(labels) == square, are_crossing_labels(square, {"a": (1, 0), "b": (0, 1), "c": (1, 0), "d": (1, 1)})]
+# [True, True, True, False]
+[are_sharing_labels(Company(["a", "b"], [("a", "b")]), {"a": (1,), "b": (1,)}), are_even({"a": (1,), "b": (1,)}), sharing_company({"a": (1, 0), "b": (0, 1)}).friends(), lone_parts(one)]
+# [True, True, [], ({'c': ()}, {'a': (1,), 'b': (1,)})]
+[lone_parts(triangle), strangers_lone(triangle), strangers_lone(square)]
+# [None, {'a': (), 'b': (), 'c': ()}, None]
+[len(lone_companies(abc, odd)), [company.friends() for company in lone_companies(abc, even)], lone_at(abc, odd, 0).friends(), lone_place(triangle, odd)]
+# [4, [[('a', 'b'), ('a', 'c'), ('b', 'c')]], [], None]
+'''
+
+BLOCKS = [
+    ("3", SECTION_3, 4), ("4", SECTION_4, 4),
+    ("5", SECTION_5, 7),
+    ("6", SECTION_6, 5),
+    ("7", SECTION_7, 6),
+    ("8", SECTION_8, 4),
+    ("9", SECTION_9, 5),
+    ("10", SECTION_10, 5),
+    ("11", SECTION_11, 6),
+]
 
 
 def answers(block):

@@ -6,7 +6,9 @@ import itertools
 import unittest
 
 from evenfriends.companies import Company
-from evenfriends.errors import Apart, FriendError, InvalidPairs, InvalidPeople, NothingToRedo, Refused
+from evenfriends.errors import (
+    Apart, FriendError, InvalidCompany, InvalidPairs, InvalidPeople, NothingToRedo, Refused, Unlike,
+)
 from tests import calls, support
 
 
@@ -28,7 +30,8 @@ class WrongArguments(unittest.TestCase):
 
     def test_the_first_of_several_is_raised(self):
         for function, arguments in calls.CALLS:
-            lots = [argument.wrongs() for argument in arguments]
+            # What is judged comes last, and nothing is raised for it.
+            lots = [argument.wrongs() or support.any_objects() for argument in arguments]
             for flags in itertools.product([False, True], repeat=len(arguments)):
                 if sum(flags) < 2:
                     continue
@@ -43,6 +46,8 @@ class WrongArguments(unittest.TestCase):
     def test_wrong_arguments_by_name(self):
         for function, arguments in calls.CALLS:
             for at, argument in enumerate(arguments):
+                if argument.error is None:
+                    continue
                 wrong = argument.wrongs()[at]
                 by_name = {one.name: one.rights[0] for one in arguments}
                 by_name[argument.name] = wrong
@@ -54,6 +59,69 @@ class WrongArguments(unittest.TestCase):
         many = [one + other for one in "abcd" for other in "abcd"]
         company = Company(many, [])
         self.assertEqual(company.people(), sorted(many))
+
+
+class UnlikeCompanies(unittest.TestCase):
+    unlike = [Company(["a"], []), Company(["a", "b", "c"], []), Company(["a", "b", "c", "d", "e"], [("a", "b")])]
+    unlike += [Company(["a", "b", "c", "e"], []), Company(["aa", "b", "c", "d"], [("b", "c")])]
+
+    def check(self, function, args, error, wrong):
+        raised = support.error_of(function, args)
+        self.assertIs(type(raised), error, (function.__name__, args))
+        self.assertIs(raised.value, wrong, (function.__name__, args))
+
+    def test_unlike_alone_both_ways(self):
+        for function, arguments in calls.OF_TWO:
+            rest = [argument.rights[0] for argument in arguments[2:]]
+            for other in self.unlike:
+                one = calls.square()
+                self.check(function, [one, other] + rest, Unlike, other)
+                self.check(function, [other, one] + rest, Unlike, one)
+
+    def test_no_company_is_told_ahead_of_unlike(self):
+        for function, arguments in calls.OF_TWO:
+            rest = [argument.rights[0] for argument in arguments[2:]]
+            for wrong in arguments[0].wrongs():
+                self.check(function, [wrong, self.unlike[0]] + rest, InvalidCompany, wrong)
+                self.check(function, [self.unlike[0], wrong] + rest, InvalidCompany, wrong)
+                self.check(function, [wrong, None] + rest, InvalidCompany, wrong)
+
+    def test_unlike_is_told_ahead_of_what_stands_behind(self):
+        tried = 0
+        for function, arguments in calls.OF_TWO:
+            for wrong in arguments[2].wrongs() if len(arguments) > 2 else []:
+                args = [calls.square(), self.unlike[1], wrong] + [None] * (len(arguments) - 3)
+                self.check(function, args, Unlike, args[1])
+                tried += 1
+        self.assertGreater(tried, 500)
+
+    def test_all_functions_of_two_are_tried(self):
+        taking = [row for row in calls.CALLS if [one.name for one in row[1]][:2] == ["one", "other"]]
+        others = ["side_by_side", "are_alike", "parting_company", "is_parting_company"]
+        left = [function.__name__ for function, _ in taking if function.__name__ not in others]
+        self.assertEqual(left, [function.__name__ for function, _ in calls.OF_TWO])
+
+
+class Judging(unittest.TestCase):
+    def test_any_object_is_judged(self):
+        for function, arguments in calls.CALLS:
+            if arguments[-1].error is None:
+                rights = [argument.rights[0] for argument in arguments[:-1]]
+                for value in support.any_objects():
+                    self.assertIs(type(function(*rights, value)), bool, function.__name__)
+
+    def test_none_is_never_such_a_thing(self):
+        for function, arguments in calls.CALLS:
+            if arguments[-1].error is None:
+                for lot in itertools.product(*[argument.rights for argument in arguments[:-1]]):
+                    self.assertIs(function(*lot, None), False, function.__name__)
+
+    def test_the_last_parameter_of_those_that_judge_is_called_value(self):
+        judging = [function.__name__ for function, arguments in calls.CALLS if arguments[-1].error is None]
+        self.assertEqual(len(judging), 19)
+        for function, arguments in calls.CALLS:
+            self.assertEqual("value" in inspect.signature(function).parameters, function.__name__ in judging)
+            self.assertNotIn("value", [argument.name for argument in arguments[:-1]])
 
 
 class Calls(unittest.TestCase):
@@ -87,10 +155,9 @@ class Calls(unittest.TestCase):
     def test_what_was_passed_may_be_changed_afterwards(self):
         for function, args in calls.right_calls():
             first = function(*args)
-            if isinstance(first, Company):
-                told = support.frozen(first)
-                spoil_all(args)
-                self.assertEqual(support.frozen(first), told, function.__name__)
+            told = support.frozen(first)
+            spoil_all(args)
+            self.assertEqual(support.frozen(first), told, function.__name__)
 
     def test_asked_again_with_others_between(self):
         asked = list(calls.right_calls())
@@ -111,8 +178,10 @@ class Calls(unittest.TestCase):
     def test_a_refused_call_changes_nothing_that_is_told_later(self):
         told = [support.frozen(function(*args)) for function, args in calls.right_calls()]
         for function, arguments in calls.CALLS:
-            for wrong in support.any_objects():
-                support.error_of(function, [wrong] * len(arguments))
+            for at, argument in enumerate(arguments):
+                for wrong in argument.wrongs():
+                    args = [one.rights[0] for one in arguments]
+                    support.error_of(function, args[:at] + [wrong] * (len(args) - at))
         self.assertEqual([support.frozen(function(*args)) for function, args in calls.right_calls()], told)
 
 

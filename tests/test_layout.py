@@ -6,7 +6,7 @@ import os
 import unittest
 
 import evenfriends
-from evenfriends import companies, triples
+from evenfriends import companies, manners, triples
 from tests import calls
 
 FOLDER = os.path.dirname(evenfriends.__file__)
@@ -26,8 +26,40 @@ INTERFACE = {
         "opposite", "cone", "side_by_side", "cut_to", "renamed", "company_at", "company_number",
     ],
     "triples": [
-        "fork_number", "forks", "kind_numbers", "kinds_moved", "odd_friends", "odd_pairs", "odd_people", "third_people",
-        "triple_numbers", "triples_moved", "triples_of",
+        "fork_number", "forks", "kind_numbers", "kinds_moved", "odd_friends", "odd_pairs", "odd_people",
+        "third_people", "triple_numbers", "triples_moved", "triples_of",
+    ],
+    "manners": [
+        "is_manner", "all_manners", "counted_people", "is_let", "let_pairs", "manners_letting", "is_kept",
+        "kept_counts", "parity_of", "are_alike", "alike_manners", "parting_company", "is_parting_company",
+        "opposite_manner", "real_manner", "lets_all", "lets_none", "let_number", "freed_by",
+    ],
+    "roads": [
+        "is_road", "led", "companies_on", "differing_pairs", "leads_to", "road_back", "cut_short", "exchanged",
+        "least_road", "same_but_order", "roads_of", "road_at", "road_place",
+    ],
+    "evens": [
+        "odd_one", "even_mark", "joined_evenly", "even_parting", "fewest_evenly", "least_evenly",
+        "is_least_evenly", "always_and_never", "lessening", "is_lessening", "even_road", "is_even_road",
+        "joined_among", "grouped_evenly",
+    ],
+    "odds": [
+        "parts_of", "odd_marks", "joined_oddly", "odd_parting", "fewest_oddly", "least_oddly", "is_least_oddly",
+        "headed", "is_headed", "odd_road", "is_odd_road", "oddly_bound",
+    ],
+    "ties": [
+        "tie_mark", "tie_joined", "tie_road", "square_road", "is_square_road", "moving_road", "is_moving_road",
+        "triangle_road", "is_triangle_road",
+    ],
+    "anyway": [
+        "joined", "road_between", "why_apart", "is_why_apart", "fewest_deeds", "shortest_road",
+        "is_shortest_road", "class_of", "class_by_deeds", "deeds_to_friends", "road_to_friends",
+        "is_road_to_friends", "farthest_in_class", "shared_class",
+    ],
+    "lones": [
+        "is_lone", "some_let", "lone_halves", "crossing_labels", "are_crossing_labels", "sharing_labels",
+        "are_sharing_labels", "crossing_company", "sharing_company", "are_even", "lone_parts", "strangers_lone",
+        "lone_companies", "lone_at", "lone_place",
     ],
 }
 BUILTINS = [
@@ -65,14 +97,15 @@ class Interface(unittest.TestCase):
         self.assertEqual(list(inspect.signature(companies.Company.friends).parameters), ["self"])
 
     def test_the_judging_functions_take_a_value(self):
-        for function in [companies.is_person, companies.is_pair]:
+        for function in [companies.is_person, companies.is_pair, manners.is_manner]:
             self.assertEqual(list(inspect.signature(function).parameters), ["value"])
 
     def test_all_others_are_among_the_calls_that_are_tried(self):
         tried = [(function.__module__, function.__name__) for function, _ in calls.CALLS]
-        judging = ["is_person", "is_pair"]
-        wanted = [("evenfriends.companies", name) for name in INTERFACE["companies"] if name not in judging]
-        wanted += [("evenfriends.triples", name) for name in INTERFACE["triples"]]
+        judging = ["is_person", "is_pair", "is_manner", "all_manners"]
+        modules = [module for module in INTERFACE if module != "errors"]
+        wanted = [("evenfriends." + module, name) for module in modules for name in INTERFACE[module]]
+        wanted = [row for row in wanted if row[1] not in judging]
         self.assertEqual(sorted(tried), sorted(wanted))
         self.assertEqual(triples.forks.__module__, "evenfriends.triples")
 
@@ -101,6 +134,30 @@ class Subset(unittest.TestCase):
                     self.assertEqual(row.level, 0)
                     self.assertTrue(row.module in LIBRARY or row.module.startswith("evenfriends."), (name, row.module))
                     self.assertTrue(all(one.name != "*" and one.asname is None for one in row.names))
+
+    def test_no_two_files_import_from_each_other(self):
+        reached = {}
+        for name, text in files().items():
+            rows = [row for row in ast.walk(ast.parse(text)) if isinstance(row, ast.ImportFrom)]
+            reached[name[:-3]] = {row.module.split(".")[1] for row in rows if row.module.startswith("evenfriends.")}
+        for _ in reached:
+            for name in reached:
+                reached[name] = reached[name].union(*[reached[other] for other in reached[name]])
+        for name in reached:
+            self.assertNotIn(name, reached[name])
+
+    def test_what_is_imported_is_used_and_keeps_its_name(self):
+        for name, text in files().items():
+            tree = ast.parse(text)
+            rows = [row for row in tree.body if isinstance(row, ast.ImportFrom)]
+            imported = [one.name for row in rows for one in row.names]
+            self.assertEqual(len(imported), len(set(imported)), name)
+            names = [row for row in ast.walk(tree) if isinstance(row, ast.Name)]
+            self.assertLessEqual(set(imported), {row.id for row in names if isinstance(row.ctx, ast.Load)}, name)
+            given = {row.id for row in names if isinstance(row.ctx, ast.Store)}
+            given |= {row.arg for row in ast.walk(tree) if isinstance(row, ast.arg)}
+            given |= {row.name for row in ast.walk(tree) if isinstance(row, ast.FunctionDef)}
+            self.assertEqual(set(imported) & given, set(), name)
 
     def test_builtins_and_kinds_of_expressions(self):
         every = dir(__builtins__) if not isinstance(__builtins__, dict) else list(__builtins__)

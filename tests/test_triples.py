@@ -10,41 +10,10 @@ from evenfriends.triples import (
     triples_moved, triples_of,
 )
 from tests import support
+from tests.plain import Plain
 
 NINE = ["a", "b", "c", "d", "e", "f", "g", "h", "i"]
 ALL_OF_NINE = list(itertools.combinations(NINE, 2))
-
-
-class Plain:
-    """A company told by sets, as the document's words say it."""
-
-    def __init__(self, company):
-        self.people = company.people()
-        self.friends = {frozenset(pair) for pair in company.friends()}
-        self.pairs = list(itertools.combinations(self.people, 2))
-        self.triples = list(itertools.combinations(self.people, 3))
-
-    def are(self, one, other):
-        return frozenset([one, other]) in self.friends
-
-    def kind(self, pair, person):
-        return self.are(pair[0], person) + self.are(pair[1], person)
-
-    def third(self, pair, kind):
-        return [person for person in self.people if person not in pair and self.kind(pair, person) == kind]
-
-    def friendships(self, triple):
-        return sum(self.are(*pair) for pair in itertools.combinations(triple, 2))
-
-    def turned(self, pair):
-        friends = {frozenset(pair)} ^ self.friends
-        return Plain(Company(self.people, [one for one in self.pairs if frozenset(one) in friends]))
-
-    def numbers(self):
-        return [sum(self.friendships(triple) == number for triple in self.triples) for number in range(4)]
-
-    def circle(self, person):
-        return [one for one in self.people if self.are(one, person)]
 
 
 class AllSmallCompanies(unittest.TestCase):
