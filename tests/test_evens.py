@@ -84,7 +84,8 @@ FIVE = (5, all_pairs(range(5)))
 SEVEN = (7, all_pairs(range(7)))
 THREE_TRIANGLES = (7, [(0, at) for at in range(1, 7)] + [(1, 2), (3, 4), (5, 6)])
 BOW_OF_FIVE = (7, all_pairs(range(5)) + [(0, 5), (0, 6), (5, 6)])
-LONE_PARTS = [ONE, TRIANGLE, BOW, FIVE, SEVEN, THREE_TRIANGLES, BOW_OF_FIVE]
+ALL_BUT_A_ROUND = (7, [pair for pair in all_pairs(range(7)) if pair not in [(0, 1), (1, 2), (2, 3), (0, 3)]])
+LONE_PARTS = [ONE, TRIANGLE, BOW, FIVE, SEVEN, THREE_TRIANGLES, BOW_OF_FIVE, ALL_BUT_A_ROUND]
 
 
 def of_lone_parts():
@@ -262,9 +263,11 @@ class Lessenings(unittest.TestCase):
                 self.check(company)
 
     def test_parts_that_are_lone_by_themselves(self):
-        many = list(of_lone_parts())
-        self.assertGreater(len(many), 30)
-        for company in many:
+        for part in LONE_PARTS:
+            self.assertEqual(plain_mark(side_by_side([part], random.Random(1))), ("lone",))
+        met = list(of_lone_parts())
+        self.assertGreater(len(met), 30)
+        for company in met:
             self.check(company)
 
     def test_of_many(self):
