@@ -1,6 +1,15 @@
 """Searches through all that deeds lead to, for few people: states are tuples of rows."""
 
-from evenfriends.rows import are_in, let_in, rows_behind
+from evenfriends.rows import are_in, let_in, pairs_in, rows_behind
+
+
+def all_states(many):
+    """Return the list of the states of all companies of so many people."""
+    none = tuple([0] * many)
+    found = [none]
+    for pair in pairs_in(none):
+        found = found + [tuple(rows_behind(state, [pair])) for state in found]
+    return found
 
 
 def steps_of(state, manner):

@@ -3,11 +3,14 @@
 import copy
 import itertools
 
-from evenfriends import anyway, companies, evens, lones, manners, odds, roads, ties, triples
+from evenfriends import (
+    anyway, companies, evens, lones, manners, newcomers, numbers, odds, roads, ties, triples, wishes,
+)
 from evenfriends.companies import Company
 from evenfriends.errors import (
     InvalidChange, InvalidChanges, InvalidCompanies, InvalidCompany, InvalidCount, InvalidLabels, InvalidManner,
-    InvalidNames, InvalidPair, InvalidPairs, InvalidPeople, InvalidPerson, InvalidRoad, InvalidTally,
+    InvalidManners, InvalidNames, InvalidPair, InvalidPairs, InvalidPeople, InvalidPerson, InvalidRoad, InvalidTally,
+    InvalidWishes,
 )
 from tests import plain, support
 
@@ -212,6 +215,12 @@ def a_number_of_people(rights=(1, 2, 3, 4, 9, 14)):
     return Argument("many", InvalidCount, list(rights), lambda value: type(value) is int and value >= 1, near)
 
 
+def number_of_people():
+    argument = a_number_of_people()
+    argument.name = "number"
+    return argument
+
+
 def a_count(name, rights):
     return Argument(name, InvalidCount, rights, lambda value: type(value) is int and value >= 0, [-1, [0], (0,), "0"])
 
@@ -361,6 +370,108 @@ def an_at():
     return Argument("at", InvalidCount, [0, 1, 2], support.is_number_below(3), near)
 
 
+WRONG_MANNERS = [
+    [2, "even"], (2, "even"), ([2], "even"), ((2,), "Even"), ((2,), "even", None), ((2,),), ((True,), "even"),
+    ((True,), "odd"), ((2, 2), "even"), ((1, 0), "odd"), ((), ""), [((2,), "even")], {(2,): "even"},
+]
+
+
+def one_of_manners(rights):
+    """A manner of just some ones."""
+    def is_right(value):
+        return support.frozen(value) in [support.frozen(manner) for manner in rights]
+
+    near = [manner for manner in plain.MANNERS if manner not in rights] + WRONG_MANNERS
+    return Argument("manner", InvalidManner, rights, is_right, near)
+
+
+def even_manner():
+    return one_of_manners([plain.EVEN, plain.TIES_EVEN])
+
+
+def tie_manner():
+    return one_of_manners([plain.TIES_ODD, plain.TIES_EVEN, ((0, 2), "even"), ((0, 2), "odd")])
+
+
+def is_two_manners(value):
+    if type(value) is not list or len(value) != 2 or not all(is_manner(one) for one in value):
+        return False
+    return value[0] < value[1]
+
+
+def two_manners():
+    one, other = ((1,), "odd"), ((2,), "even")
+    rights = [[one, other], [((0,), "even"), ((2,), "odd")], [((), "even"), ((1,), "even")], [((0, 1), "odd"), other]]
+    near = [
+        [other, one], [one, one], [one], [one, other, ((2,), "odd")], (one, other), {one: other}, [one, list(other)],
+        [((True,), "odd"), other], [one, ((2,), True)], [one, None], [[one, other]], one, [((0, 1), "odd"), ((0,), "odd")],
+    ]
+    return Argument("manners", InvalidManners, rights, is_two_manners, near)
+
+
+def is_wishes(value):
+    return type(value) is dict and all(support.is_pair(pair) and type(wish) is bool for pair, wish in value.items())
+
+
+def is_wishes_of_four(value):
+    return is_wishes(value) and all(support.is_pair_among(FOUR)(pair) for pair in value)
+
+
+WRONG_WISHES = [
+    {("a", "b"): 1}, {("a", "b"): 0}, {("a", "b"): None}, {("a", "b"): "True"}, {("a", "b"): [True]}, {("b", "a"): True},
+    {("a", "a"): False}, {("a", "b", "c"): True}, {"ab": True}, {"a": True}, {("a", "B"): True}, {1: True},
+    {None: False}, {(("a",), "b"): True}, {("a", "b"): True, ("c", "d"): 1}, {("a", "b"): True, "c": False},
+    [("a", "b")], [(("a", "b"), True)], ((("a", "b"), True),), ("a", "b"), {("a", 1): True}, {("", "b"): True},
+]
+
+
+def some_wishes(rights=({("c", "d"): True, ("a", "b"): False}, {}, {("a", "b"): True}, {("a", "b"): True, ("b", "c"): True})):
+    near = WRONG_WISHES + [{("a", "e"): True}, {("e", "f"): False}, {("a", "b"): True, ("d", "e"): True}]
+    return Argument("wishes", InvalidWishes, list(rights), is_wishes_of_four, near)
+
+
+def some_parities():
+    def is_right(value):
+        if type(value) is not dict:
+            return False
+        return all(type(one) is str and one in FOUR and type(worth) is int and worth in (0, 1) for one, worth in value.items())
+
+    near = [
+        {"a": True}, {"a": False}, {"a": 2}, {"a": -1}, {"a": None}, {"a": "1"}, {"a": (1,)}, {"a": [0]}, {"e": 0},
+        {"a": 1, "e": 1}, {1: 1}, {None: 0}, {("a",): 1}, {("a", "b"): 1}, [("a", 1)], (("a", 1),), ["a"], {"A": 1},
+        {"a": 0, "b": True}, {"a": {}}, {"": 1},
+    ]
+    rights = [{"d": 1, "a": 0}, {}, {"a": 1}, {"a": 1, "b": 0, "c": 0, "d": 0}, {"c": 1, "d": 1, "b": 0, "a": 0}]
+    return Argument("parities", InvalidWishes, rights, is_right, near)
+
+
+def a_parity():
+    near = [2, -1, [0], (1,), "0", True, False]
+    return Argument("parity", InvalidCount, [0, 1], support.is_number_below(2), near)
+
+
+def free_pairs_of_four():
+    """Free pairs beside the first of some wishes."""
+    def is_right(value):
+        return support.is_pairs_among(FOUR)(value) and not {("a", "b"), ("c", "d")} & set(value)
+
+    near = [
+        [("a", "b")], [("c", "d")], [("a", "c"), ("c", "d")], [("a", "c"), ("a", "c")], (("a", "c"),), [["a", "c"]],
+        [("c", "a")], [("a", "e")], {("a", "c"): True}, ("a", "c"), [("a", "c"), None], [("a", ["c"])],
+    ]
+    return Argument("pairs", InvalidPairs, [[], [("b", "d"), ("a", "c")]], is_right, near)
+
+
+def five_and_more():
+    near = [4, 1, 0, -5, [5], (5,), "5"]
+    return Argument("many", InvalidCount, [5, 6, 9, 60], lambda value: type(value) is int and value >= 5, near)
+
+
+def an_odd_number():
+    near = [6, 7, 60, -1, [0], (0,), "0"]
+    return Argument("odd", InvalidCount, [0, 2, 5], support.is_number_below(6), near)
+
+
 # Each function with its arguments, in the order of its parameters.
 CALLS = [
     (Company, [free_people(), some_friends()]),
@@ -486,6 +597,61 @@ CALLS = [
     (lones.lone_companies, [free_people(), a_manner()]),
     (lones.lone_at, [free_people(), a_manner([plain.ODD, plain.TIES_ODD]), a_number(14)]),
     (lones.lone_place, [a_company(), a_manner()]),
+    (numbers.even_families, [a_number_of_people(), a_count("size", [0, 1, 2, 60])]),
+    (numbers.untied_companies, [a_count("size", [0, 1, 2, 14, 60])]),
+    (numbers.is_wholly_even, [a_company()]),
+    (numbers.is_wholly_odd, [a_company()]),
+    (numbers.rank_of, [a_company()]),
+    (numbers.even_by_rank, [a_number_of_people()]),
+    (numbers.even_count, [a_number_of_people()]),
+    (numbers.odd_count, [a_number_of_people()]),
+    (numbers.lone_count, [a_manner(plain.MANNERS), a_number_of_people()]),
+    (numbers.lone_connected, [a_number_of_people()]),
+    (numbers.class_count, [a_manner(plain.MANNERS), a_number_of_people()]),
+    (numbers.class_sizes, [a_manner(plain.MANNERS), a_number_of_people([3, 1, 2])]),
+    (numbers.joined_tuples, [a_manner(plain.MANNERS), a_number_of_people([3, 1, 2])]),
+    (numbers.tie_class, [a_number_of_people([5, 6, 14]), an_odd_number()]),
+    (numbers.tie_sizes, [tie_manner(), a_number_of_people()]),
+    (wishes.are_wishes, [free_people(), Judged([{("a", "b"): True}, {}, {("a", "e"): True}, None])]),
+    (wishes.meets, [a_company(), some_wishes()]),
+    (wishes.free_pairs, [free_people(), some_wishes()]),
+    (wishes.met_with, [free_people(), some_wishes(), free_pairs_of_four()]),
+    (wishes.rest_of, [a_company(), even_manner()]),
+    (wishes.rest_sum, [free_people(), some_wishes(), even_manner()]),
+    (wishes.are_fixed, [free_people(), some_wishes(), even_manner()]),
+    (wishes.safe_wishes, [five_and_more(), even_manner()]),
+    (wishes.fewest_free, [free_people(), some_wishes(), even_manner(), a_parity()]),
+    (wishes.least_free, [free_people(), some_wishes(), even_manner(), a_parity()]),
+    (wishes.is_least_free, [free_people(), some_wishes(), even_manner(), a_parity(), Judged([[], [("a", "c")], None])]),
+    (wishes.fewest_in_class, [a_company(), some_wishes(), even_manner()]),
+    (wishes.wished_company, [a_company(), some_wishes(), even_manner()]),
+    (wishes.is_wished_company, [a_company(), some_wishes(), even_manner(), Judged([square(), None])]),
+    (wishes.forced, [a_company(), some_wishes(), even_manner()]),
+    (wishes.many_met, [a_company(), some_wishes(), even_manner()]),
+    (wishes.met_at, [a_company(), some_wishes([{("a", "b"): True}, {("b", "c"): True}]), just_even(), a_number(22)]),
+    (wishes.surplus, [free_people(), some_wishes()]),
+    (wishes.fewest_for, [free_people(), some_wishes(), some_parities()]),
+    (wishes.company_for, [free_people(), some_wishes(), some_parities()]),
+    (wishes.is_company_for, [free_people(), some_wishes(), some_parities(), Judged([square(), None])]),
+    (wishes.odd_lot, [free_people(), some_wishes(), some_parities()]),
+    (wishes.is_odd_lot, [free_people(), some_wishes(), some_parities(), Judged([["a"], FOUR, None])]),
+    (wishes.meets_all, [free_people(), some_wishes(), some_parities(), even_manner(), a_parity()]),
+    (wishes.company_for_all, [free_people(), some_wishes(), some_parities(), even_manner(), a_parity()]),
+    (wishes.is_company_for_all, [
+        free_people(), some_wishes(), some_parities(), even_manner(), a_parity(), Judged([square(), None]),
+    ]),
+    (newcomers.cones_joined, [a_company("one"), a_second(LIKE_SQUARE)]),
+    (newcomers.either_joined, [a_company("one"), a_second(LIKE_SQUARE), two_manners()]),
+    (newcomers.either_lets, [a_company(), two_manners()]),
+    (newcomers.either_lone, [a_company(), two_manners()]),
+    (newcomers.either_lone_number, [number_of_people(), two_manners()]),
+    (newcomers.either_road, [a_company("one"), a_second(LIKE_SQUARE), two_manners()]),
+    (newcomers.fewest_newcomers, [a_company("one"), a_second(LIKE_SQUARE), one_of_manners([plain.EVEN, plain.ODD, plain.TIES_EVEN, plain.TIES_ODD])]),
+    (newcomers.freeing_number, [a_company()]),
+    (newcomers.is_cone_of, [a_company(), a_person(), Judged([Company(["b", "c", "d"], []), None])]),
+    (newcomers.is_either_road, [a_company("one"), a_second(LIKE_SQUARE), two_manners(), Judged([[], ROAD, None])]),
+    (newcomers.never_free, [a_company()]),
+    (newcomers.with_newcomers, [a_company(), a_count("number", [0, 1, 2, 5])]),
 ]
 
 # The functions of two companies that have to be of the same people.

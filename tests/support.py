@@ -20,7 +20,7 @@ def any_objects():
     """Things of each kind that the document calls any object, made anew."""
     return [
         None, True, False,
-        0, 1, 2, 3, 4, -1, -10 ** 29, 10 ** 29,
+        0, 1, 2, 3, 4, 5, 14, -1, -10 ** 29, 10 ** 29,
         "", "a", "b", "e", "abcdefgh", "abcdefghi", "A", "aB", "a b", " a", "a\n", "\n", "\t", "a1", "1", "~", "`", "{",
         [], [[]], [None], ["a"], ["a", "b"], ["b", "a"], ["a", "a"], ["a", "b", "c", "d"], [["a"]], ["a", 1], [True],
         [0],
@@ -28,7 +28,8 @@ def any_objects():
         (), ("a",), ("a", "b"), ("b", "a"), ("a", "a"), ("a", "b", "c"), ("a", ["b"]), (["a"], "b"), ("a", None),
         (1, 2), (True, False), ("A", "b"), (("a", "b"),), ((), ()),
         {}, {"a": "b"}, {"a": "a"}, {"a": ["a"]}, {("a", "b"): True}, {None: [1], 1: {}, (1, ("x",)): ()},
-        {True: False},
+        {True: False}, {("a", "b"): 1}, {("b", "a"): True}, {("a", "e"): False}, {"a": 0}, {"a": 1}, {"a": True},
+        [((1,), "odd"), ((2,), "even")], (((1,), "odd"), ((2,), "even")), [((2,), "even"), ((1,), "odd")],
         "even", "odd", "lone", "count", ((2,), "even"), ((), "odd"), ((True,), "even"), [((2,), "even")], [(2,), "even"],
         ((3,), False), ((), True), ((3,), 0), {"a": (0, 1)}, {"a": ()}, {"a": (1,), "b": (1,)}, {"a": (True,)},
         {"a": [1]},

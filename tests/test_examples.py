@@ -171,6 +171,71 @@ labels = {"a": (1, 0), "b": (0, 1), "c": (1, 0), "d": (0, 1)}
 # [4, [[('a', 'b'), ('a', 'c'), ('b', 'c')]], [], None]
 '''
 
+SECTION_12 = '''
+from evenfriends.companies import Company
+from evenfriends.numbers import class_count, class_sizes, even_by_rank, even_count, even_families, is_wholly_even, is_wholly_odd, joined_tuples, lone_connected, lone_count, odd_count, rank_of, tie_class, tie_sizes, untied_companies
+abcd = ["a", "b", "c", "d"]
+square = Company(abcd, [("a", "b"), ("a", "d"), ("b", "c"), ("c", "d")])
+pairs = Company(abcd, [("a", "b"), ("c", "d")])
+even, odd, ties = ((2,), "even"), ((2,), "odd"), ((1,), "odd")
+[is_wholly_even(square), is_wholly_odd(pairs), rank_of(square), rank_of(pairs), [untied_companies(size) for size in range(5)]]
+# [True, True, 2, 4, [1, 0, 1, 0, 28]]
+[even_families(4, 2), even_families(5, 2), even_families(6, 2), even_by_rank(4), even_by_rank(6), [even_count(many) for many in range(1, 10)]]
+# [3, 15, 75, {0: 1, 2: 3}, {0: 1, 2: 75}, [1, 1, 1, 4, 16, 76, 316, 5104, 69616]]
+[odd_count(4), odd_count(5), [lone_count(odd, many) for many in range(1, 8)], lone_count(even, 5), lone_count(even, 6), lone_count(ties, 4)]
+# [4, 0, [1, 2, 4, 14, 46, 272, 1324], 16, 0, 16]
+[[lone_connected(many) for many in range(1, 10)], [class_count(even, many) for many in range(1, 8)], [class_count(odd, many) for many in range(1, 7)]]
+# [[1, 1, 0, 4, 0, 76, 0, 7204, 30240], [1, 1, 2, 5, 18, 8, 318], [1, 2, 5, 19, 73, 406]]
+[class_count(ties, 5), class_sizes(even, 5), class_sizes(ties, 5), joined_tuples(((1,), "even"), 3), tie_class(5, 2), tie_sizes(((1,), "odd"), 5)]
+# [66, {1: 16, 400: 1, 608: 1}, {1: 64, 320: 1, 640: 1}, 32, 640, {1: 64, 320: 1, 640: 1}]
+'''
+
+SECTION_13 = '''
+from evenfriends.companies import Company
+from evenfriends.wishes import are_fixed, company_for, fewest_for, fewest_free, fewest_in_class, forced, free_pairs, is_least_free, is_odd_lot, many_met, meets, meets_all, met_with, odd_lot, rest_of, rest_sum, safe_wishes, surplus, wished_company
+abc, common, ties = ["a", "b", "c"], ((2,), "even"), ((1,), "even")
+some, apart = {("a", "b"): True}, {("a", "b"): False}
+[free_pairs(abc, some), rest_sum(abc, some, common), rest_sum(abc, apart, common), are_fixed(abc, some, common), are_fixed(abc, apart, common)]
+# [[('a', 'c'), ('b', 'c')], [(('a', 'c'), ('b', 'c'))], [], False, True]
+[fewest_free(abc, some, common, 1), fewest_free(abc, some, common, 0), fewest_free(abc, apart, common, 1), fewest_free(abc, {}, common, 1), is_least_free(abc, some, ties, 1, [("b", "c")])]
+# [2, 0, None, 3, True]
+rest_sum(abc, some, ties)
+# [(('a', 'c'),), (('a', 'c'), ('b', 'c')), (('b', 'c'),)]
+[met_with(abc, some, [("b", "c")]) == Company(abc, [("a", "b"), ("b", "c")]), rest_of(Company(abc, [("a", "b"), ("b", "c")]), ties), meets(Company(abc, []), apart)]
+# [True, 1, True]
+five = ["a", "b", "c", "d", "e"]
+bow = Company(five, [("a", "b"), ("a", "c"), ("a", "d"), ("a", "e"), ("b", "c"), ("d", "e")])
+three = Company(five, [("a", "b"), ("a", "c"), ("b", "c")])
+[safe_wishes(5, common), safe_wishes(6, common), safe_wishes(5, ties), surplus(abc, {}), surplus(abc, some), surplus(abc, apart)]
+# [3, 5, 7, 0, -2, 2]
+[fewest_in_class(bow, {}, common), wished_company(bow, {}, common) == bow, fewest_in_class(bow, {("b", "d"): True}, common), fewest_in_class(three, {}, common), fewest_in_class(three, some, common)]
+# [6, True, None, 3, 2]
+tight = {("a", "d"): False, ("a", "e"): False, ("b", "c"): True, ("b", "d"): False, ("b", "e"): False, ("c", "d"): False, ("c", "e"): False, ("d", "e"): False}
+[forced(three, tight, common), many_met(three, tight, common), forced(Company(five, []), tight, common), many_met(Company(five, []), tight, common)]
+# [{('a', 'b'): True, ('a', 'c'): True}, 1, {}, 3]
+[fewest_for(abc, {}, {"a": 1, "b": 1}), fewest_for(abc, {}, {"a": 1, "b": 0, "c": 0}), odd_lot(abc, {}, {"a": 1, "b": 0, "c": 0}), is_odd_lot(abc, {("a", "b"): True, ("a", "c"): False}, {"a": 0}, ["a"])]
+# [1, None, ['a', 'b', 'c'], True]
+[company_for(abc, {}, {"a": 1, "b": 1, "c": 0}) == Company(abc, [("a", "b")]), meets_all(abc, {}, {"a": 0, "b": 0, "c": 0}, common, 1), meets_all(abc, {}, {"a": 1, "b": 1}, common, 1)]
+# [True, True, False]
+'''
+
+SECTION_14 = '''
+from evenfriends.companies import Company
+from evenfriends.newcomers import cones_joined, either_joined, either_lets, either_lone, fewest_newcomers, freeing_number, is_either_road, never_free, with_newcomers
+people, even, odd, ties = ["a", "b", "c", "d", "e"], ((2,), "even"), ((2,), "odd"), ((1,), "odd")
+bow = Company(people, [("a", "b"), ("a", "c"), ("a", "d"), ("a", "e"), ("b", "c"), ("d", "e")])
+none = Company(people, [])
+all_friends = Company(people, [("a", "b"), ("a", "c"), ("a", "d"), ("a", "e"), ("b", "c"), ("b", "d"), ("b", "e"), ("c", "d"), ("c", "e"), ("d", "e")])
+[fewest_newcomers(bow, none, even), fewest_newcomers(all_friends, none, even), fewest_newcomers(bow, none, odd), fewest_newcomers(none, none, odd)]
+# [1, 2, None, 0]
+[freeing_number(bow), freeing_number(all_friends), freeing_number(none), never_free(bow), never_free(Company(people, [("a", "b")]))]
+# [1, 2, 0, True, False]
+[with_newcomers(Company(["a", "c"], []), 2).people(), cones_joined(bow, none), cones_joined(none, none)]
+# [['a', 'b', 'c', 'd'], False, True]
+[either_lone(bow, [((1,), "odd"), ((2,), "even")]), either_lone(none, [((1,), "odd"), ((2,), "odd")]), either_joined(bow, none, [((1,), "even"), ((2,), "even")]), len(either_lets(none, [((1,), "odd"), ((2,), "even")]))]
+# [True, True, True, 10]
+'''
+
 BLOCKS = [
     ("3", SECTION_3, 4), ("4", SECTION_4, 4),
     ("5", SECTION_5, 7),
@@ -180,6 +245,9 @@ BLOCKS = [
     ("9", SECTION_9, 5),
     ("10", SECTION_10, 5),
     ("11", SECTION_11, 6),
+    ("12", SECTION_12, 5),
+    ("13", SECTION_13, 9),
+    ("14", SECTION_14, 4),
 ]
 
 

@@ -118,7 +118,7 @@ class Judging(unittest.TestCase):
 
     def test_the_last_parameter_of_those_that_judge_is_called_value(self):
         judging = [function.__name__ for function, arguments in calls.CALLS if arguments[-1].error is None]
-        self.assertEqual(len(judging), 19)
+        self.assertEqual(len(judging), 27)
         for function, arguments in calls.CALLS:
             self.assertEqual("value" in inspect.signature(function).parameters, function.__name__ in judging)
             self.assertNotIn("value", [argument.name for argument in arguments[:-1]])

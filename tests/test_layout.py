@@ -61,6 +61,21 @@ INTERFACE = {
         "are_sharing_labels", "crossing_company", "sharing_company", "are_even", "lone_parts", "strangers_lone",
         "lone_companies", "lone_at", "lone_place",
     ],
+    "numbers": [
+        "even_families", "untied_companies", "is_wholly_even", "is_wholly_odd", "rank_of", "even_by_rank",
+        "even_count", "odd_count", "lone_count", "lone_connected", "class_count", "class_sizes", "joined_tuples",
+        "tie_class", "tie_sizes",
+    ],
+    "wishes": [
+        "are_wishes", "meets", "free_pairs", "met_with", "rest_of", "rest_sum", "are_fixed", "safe_wishes",
+        "fewest_free", "least_free", "is_least_free", "fewest_in_class", "wished_company", "is_wished_company",
+        "forced", "many_met", "met_at", "surplus", "fewest_for", "company_for", "is_company_for", "odd_lot",
+        "is_odd_lot", "meets_all", "company_for_all", "is_company_for_all",
+    ],
+    "newcomers": [
+        "cones_joined", "either_joined", "either_lets", "either_lone", "either_lone_number", "either_road",
+        "fewest_newcomers", "freeing_number", "is_cone_of", "is_either_road", "never_free", "with_newcomers",
+    ],
 }
 BUILTINS = [
     "len", "range", "enumerate", "zip", "min", "max", "sum", "abs", "sorted", "reversed", "int", "str", "bool",
