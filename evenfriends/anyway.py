@@ -8,7 +8,7 @@ from evenfriends.oddroads import ODD
 from evenfriends.odds import are_joined_oddly, mark_of_part, odd_road, parts_in
 from evenfriends.roads import does_lead, end_of_road, is_road_at, pairs_differing
 from evenfriends.rows import deeds_of, friends_in, road_of, rows_of
-from evenfriends.searches import explored, shortest_deeds, shortest_to_friends
+from evenfriends.searches import explored, shortest_deeds, shortest_to_wishes
 from evenfriends.ties import TIES_ODD, tie_joined, tie_road
 from evenfriends.triples import odd_people
 
@@ -189,7 +189,7 @@ def class_by_deeds(company, manner):
 def deeds_to_pair(company, manner, pair):
     """Return the fewest deeds that lead to a company in which a pair are friends, None if none do."""
     deeds = deeds_of(company.people(), [pair])
-    return shortest_to_friends(rows_of(company), deeds[0], manner)
+    return shortest_to_wishes(rows_of(company), [(deeds[0], True)], manner)
 
 
 def deeds_to_friends(company, manner, pair):

@@ -59,13 +59,17 @@ def shortest_deeds(rows, other, manner):
     return deeds_to(found, goal) if goal in found else None
 
 
-def shortest_to_friends(rows, pair, manner):
-    """Return the fewest deeds that lead from rows to where a pair are friends, None if none do."""
-    one, other = pair
+def does_state_meet(state, wanted):
+    """Tell whether in a state just those of some pairs are friends who are wanted to be, from (pair, wish)."""
+    return all([are_in(state, one, other) == wish for (one, other), wish in wanted])
+
+
+def shortest_to_wishes(rows, wanted, manner):
+    """Return the fewest deeds that lead from rows to where pairs are as wanted, None if none do."""
     layer = [tuple(rows)]
     found = {layer[0]: (0, None, None)}
     while len(layer) > 0:
-        goals = [state for state in layer if are_in(state, one, other)]
+        goals = [state for state in layer if does_state_meet(state, wanted)]
         if len(goals) > 0:
             return deeds_to(found, goals[0])
         layer = widened(found, layer, manner)

@@ -4,14 +4,17 @@ import copy
 import itertools
 
 from evenfriends import (
-    anyway, companies, evens, lones, manners, newcomers, numbers, odds, roads, ties, triples, wishes,
+    anyway, clubs, companies, evens, house, lones, manners, newcomers, numbers, odds, papers, roads, scripts, ties,
+    triples, wishes,
 )
+from evenfriends.clubs import Table
 from evenfriends.companies import Company
 from evenfriends.errors import (
-    InvalidChange, InvalidChanges, InvalidCompanies, InvalidCompany, InvalidCount, InvalidLabels, InvalidManner,
-    InvalidManners, InvalidNames, InvalidPair, InvalidPairs, InvalidPeople, InvalidPerson, InvalidRoad, InvalidTally,
-    InvalidWishes,
+    InvalidChange, InvalidChanges, InvalidClub, InvalidCompanies, InvalidCompany, InvalidCount, InvalidHouse,
+    InvalidLabels, InvalidLog, InvalidManner, InvalidManners, InvalidNames, InvalidPair, InvalidPairs, InvalidPeople,
+    InvalidPerson, InvalidPlace, InvalidRoad, InvalidScript, InvalidTable, InvalidTally, InvalidText, InvalidWishes,
 )
+from evenfriends.house import House
 from tests import plain, support
 
 FOUR = ["a", "b", "c", "d"]
@@ -472,6 +475,222 @@ def an_odd_number():
     return Argument("odd", InvalidCount, [0, 2, 5], support.is_number_below(6), near)
 
 
+CLUBS = ["a", "x", "y"]
+
+
+def a_square_table():
+    """Three people and three clubs with one square; a word is a person and a club."""
+    members = [("b", "x"), ("a", "y"), ("a", "x"), ("b", "y"), ("c", "a")]
+    return Table(["c", "a", "b"], ["y", "a", "x"], members)
+
+
+def a_table(name="table"):
+    near = [[a_square_table()], (["a"], ["x"], []), (a_square_table(),), square(), {"a": a_square_table()}, "a\nx"]
+    return Argument(name, InvalidTable, [a_square_table()], lambda value: type(value) is Table, near)
+
+
+def second_table():
+    argument = a_table("other")
+    square_elsewhere = [("b", "a"), ("c", "a"), ("b", "y"), ("c", "y")]
+    argument.rights = [
+        a_square_table(), Table(["a", "b", "c"], CLUBS, square_elsewhere), Table(["a", "b", "c"], CLUBS, []),
+        Table(["a", "b", "c"], CLUBS, [("a", "x")]),
+    ]
+    return argument
+
+
+def is_place(value):
+    return type(value) is tuple and len(value) == 2 and support.is_word(value[0]) and support.is_word(value[1]) and (
+        value[0] in ["a", "b", "c"] and value[1] in CLUBS
+    )
+
+
+WRONG_PLACES = [
+    ("x", "a"), ("x", "y"), ["a", "x"], ("a", "b"), ("d", "x"), ("a",), ("a", "x", "y"), ("a", ["x"]), (["a"], "x"), "ax",
+    {"a": "x"}, (("a", "x"),), ("a", None), (0, 1), ("A", "x"),
+]
+
+
+def a_place(just_let=False):
+    """A place of the table; if that is told, one that is let."""
+    shut = [("a", "x"), ("a", "y"), ("b", "x"), ("b", "y")] if just_let else []
+    shut = [place for place in shut if clubs.squares_through(a_square_table(), place) % 2]
+
+    def is_right(value):
+        return is_place(value) and value not in shut
+
+    rights = [("c", "x"), ("c", "a"), ("a", "a")]
+    return Argument("place", InvalidPlace, rights, is_right, WRONG_PLACES + shut)
+
+
+def list_of_places(people, known):
+    def is_right(value):
+        if type(value) is not list or not all(type(one) is tuple and len(one) == 2 for one in value):
+            return False
+        if not all(type(person) is str and person in people and type(club) is str and club in known for person, club in value):
+            return False
+        return len(set(value)) == len(value)
+
+    near = [[place] for place in WRONG_PLACES if not is_right([place])] + [
+        [("a", "x"), ("a", "x")], (("a", "x"),), {("a", "x"): True}, [("a", "x"), None], [[("a", "x")]], ("a", "x"),
+        [("a", "x"), ["a", "y"]],
+    ]
+    return Argument("members", InvalidPlace, [[], [("d", "x"), ("a", "a"), ("a", "x")]], is_right, near)
+
+
+def free_clubs(rights):
+    clubs_argument = free_people("clubs")
+    clubs_argument.error = InvalidClub
+    clubs_argument.rights = rights
+    return clubs_argument
+
+
+def few_people():
+    people = free_people()
+    people.rights = [["b", "a"], ["a"], ["c", "a", "b"]]
+    return people
+
+
+def walks_table(value):
+    """Whether any object is a road from the table, by counting squares."""
+    if type(value) is not list or not all(is_place(place) for place in value):
+        return False
+    members = set(a_square_table().members())
+    for one, club in value:
+        others = [(a, d) for a in "abc" for d in CLUBS if a != one and d != club]
+        if sum({(a, d), (a, club), (one, d)} <= members for a, d in others) % 2:
+            return False
+        members ^= {(one, club)}
+    return True
+
+
+def places_of_road():
+    near = [[place] for place in WRONG_PLACES] + [
+        [("a", "x")], [("c", "x"), ("c", "y")], (("c", "x"),), {("c", "x"): 1}, ("c", "x"), [("c", "x"), ("c", "x"), ("b", "y")],
+    ]
+    rights = [[], [("c", "x"), ("c", "x")], [("c", "x"), ("c", "a"), ("b", "a")]]
+    return Argument("places", InvalidRoad, rights, walks_table, [value for value in near if not walks_table(value)])
+
+
+def a_new_word(name, error, known):
+    near = known + ["abcdefghi", "E", "e ", ["e"], ("e",), "", "1"]
+    return Argument(name, error, ["e", "abcdefgh"], lambda value: support.is_word(value) and value not in known, near)
+
+
+def a_house():
+    near = [[support.a_house()], {"a": House()}, [], "house", square()]
+    return Argument("house", InvalidHouse, [support.a_house(), House()], lambda value: type(value) is House, near)
+
+
+WORDS_OF_COMMANDS = {
+    "put": 2, "take": 1, "deed": 2, "wish": 2, "unwish": 1, "guest": 2, "leave": 2, "exchange": 2, "to_manner": 2, "swap": 2,
+}
+
+
+def is_log(value):
+    """A log by its form."""
+    if type(value) is not list or not all(type(one) is tuple and one and type(one[0]) is str for one in value):
+        return False
+    return all(len(one) - 1 == WORDS_OF_COMMANDS.get(one[0]) for one in value)
+
+
+def a_log():
+    abc = Company(["a", "b", "c"], [])
+    rights = [[], [("put", abc, plain.EVEN), ("take", 0)], [("put", abc, plain.ODD)]]
+    near = [
+        [("put", abc)], [("put", abc, plain.EVEN, 0)], [("take",)], [["take", 0]], (("take", 0),), [("Take", 0)], [()],
+        [("undo",)], [("lets", 0)], [("try", [])], [("take", 0), None], [(["take"], 0)], [("met", 0)], {("take", 0): 1},
+        ("take", 0), [("deed", 0, "a", "b")], [(True, 0)], [("swap", 0)],
+    ]
+    return Argument("log", InvalidLog, rights, is_log, near)
+
+
+def is_command(value):
+    """A command of a script by its form."""
+    if type(value) is not tuple or not value or type(value[0]) is not str:
+        return False
+    word, things = value[0], value[1:]
+    tests = {
+        "put": [support.is_company, is_manner], "take": [support.is_count], "deed": [support.is_count, support.is_pair],
+        "wish": [support.is_count, is_wishes], "unwish": [support.is_count], "guest": [support.is_count, support.is_word],
+        "leave": [support.is_count, support.is_word], "exchange": [support.is_count, support.is_company],
+        "to_manner": [support.is_count, is_manner], "swap": [support.is_count, support.is_count],
+        "lets": [support.is_count], "met": [support.is_count], "undo": [], "redo": [], "try": [is_script],
+    }.get(word)
+    return tests is not None and len(tests) == len(things) and all(test(one) for test, one in zip(tests, things))
+
+
+def is_script(value):
+    return type(value) is list and all(is_command(one) for one in value)
+
+
+def a_day():
+    """A script with each command, some of them refused."""
+    abc, near = Company(["a", "b", "c"], [("a", "b")]), Company(["a", "b", "c"], [("a", "c"), ("b", "c")])
+    return [
+        ("put", abc, plain.EVEN), ("put", near, ((0, 2), "odd")), ("wish", 0, {("b", "c"): False, ("a", "b"): True}),
+        ("lets", 0), ("met", 0), ("deed", 0, ("a", "c")), ("unwish", 0), ("guest", 0, "end"), ("leave", 0, "end"),
+        ("try", [("exchange", 0, near), ("try", [("take", 7), ("undo",)]), ("to_manner", 0, plain.TIES_ODD), ("try", [])]),
+        ("swap", 0, 1), ("undo",), ("redo",), ("wish", 1, {}), ("take", 10 ** 29),
+    ]
+
+
+WRONG_COMMANDS = [
+    ("put", ["a"], plain.EVEN), ("put", Company(["a"], [])), ("put", plain.EVEN, Company(["a"], [])), ("take", -1),
+    ("take", True), ("take", "0"), ("take",), ("take", 0, 0), ("deed", 0, ["a", "b"]), ("deed", 0, ("b", "a")),
+    ("deed", 0, "a", "b"), ("wish", 0, {("a", "b"): 1}), ("wish", 0, {("b", "a"): True}), ("wish", 0, None),
+    ("wish", 0, [("a", "b")]), ("unwish", None), ("guest", 0, "A"), ("guest", 0, ["a"]), ("leave", 0, ("a",)),
+    ("leave", "a"), ("exchange", 0, "a"), ("to_manner", 0, ((True,), "even")), ("to_manner", 0, "even"), ("swap", 0),
+    ("swap", 0, False), ("lets", (0,)), ("met", [0]), ("undo", 0), ("undo", None), ("redo", []), ("try", ()),
+    ("try", [["undo"]]), ("try", ("undo",)), ("try", [("undo",), None]), ("try",), ("try", [("try", [("take", True)])]),
+    ("Undo",), (["undo"],), (None,), (), ["undo"], ("undo"), ("is_met", 0), ("way", 0), ("log",), None, {("undo",): 1},
+    ("spots",), (True,), ((),), ("take", None),
+]
+
+
+def a_script(rights=None):
+    near = [[command] for command in WRONG_COMMANDS] + [[("undo",), command] for command in WRONG_COMMANDS]
+    near += [(("undo",),), {("undo",): True}, ("undo",), [[("undo",)]]]
+    return Argument("script", InvalidScript, rights or [a_day(), [], [("try", [])]], is_script, near)
+
+
+def a_text(rights, wrongs, with_words=False):
+    """A text; if that is told, each word by itself is one, too."""
+    def is_right(value):
+        return type(value) is str and (value in rights or with_words and support.is_word(value))
+
+    return Argument("text", InvalidText, rights, is_right, wrongs)
+
+
+def a_list_of_companies():
+    def is_right(value):
+        return type(value) is list and all(support.is_company(one) for one in value)
+
+    near = [(square(),), [square(), None], [[square()]], {"a": square()}, [square(), a_square_table()], square()]
+    rights = [[], [square()], [square(), Company(["z"], [])]]
+    return Argument("companies", InvalidCompanies, rights, is_right, near)
+
+
+def any_change():
+    return Argument("change", InvalidChange, RIGHT_CHANGES + UNFIT[:2], is_change, WRONG_FORMS)
+
+
+def any_road():
+    def is_right(value):
+        return type(value) is list and all(support.is_pair(one) for one in value)
+
+    near = [
+        (("a", "b"),), [["a", "b"]], [("b", "a")], [("a", "b"), None], {("a", "b"): 1}, [("a", "a")], ["ab"], ("a", "b"),
+        [("a", "b", "c")], [("a", ["b"])], [[("a", "b")]], [("a", "B")], "a b",
+    ]
+    return Argument("road", InvalidRoad, [[], ROAD, [("end", "friends")]], is_right, near)
+
+
+def any_wishes():
+    rights = [{("b", "c"): False, ("a", "b"): True}, {}, {("end", "friends"): True}]
+    return Argument("wishes", InvalidWishes, rights, is_wishes, WRONG_WISHES)
+
+
 # Each function with its arguments, in the order of its parameters.
 CALLS = [
     (Company, [free_people(), some_friends()]),
@@ -652,7 +871,47 @@ CALLS = [
     (newcomers.is_either_road, [a_company("one"), a_second(LIKE_SQUARE), two_manners(), Judged([[], ROAD, None])]),
     (newcomers.never_free, [a_company()]),
     (newcomers.with_newcomers, [a_company(), a_count("number", [0, 1, 2, 5])]),
+    (Table, [free_people(), free_clubs([["y", "x", "a"]]), list_of_places(FOUR, CLUBS)]),
+    (clubs.squares_of, [a_table()]),
+    (clubs.squares_through, [a_table(), a_place()]),
+    (clubs.let_places, [a_table()]),
+    (clubs.moved, [a_table(), a_place(just_let=True)]),
+    (clubs.table_behind, [a_table(), places_of_road()]),
+    (clubs.is_club_road, [a_table("one"), second_table(), Judged([[], [("c", "a")], None])]),
+    (clubs.is_lone_table, [a_table()]),
+    (clubs.some_let_place, [a_table()]),
+    (clubs.lone_tables, [few_people(), free_clubs([["y", "x"], ["a"], ["x", "a", "y"]])]),
+    (clubs.mark, [a_table()]),
+    (clubs.are_joined, [a_table("one"), second_table()]),
+    (clubs.fewest_members, [a_table()]),
+    (clubs.least_table, [a_table()]),
+    (clubs.is_least_table, [a_table(), Judged([a_square_table(), None])]),
+    (clubs.club_road, [a_table("one"), second_table()]),
+    (clubs.home_road, [a_table()]),
+    (clubs.many_classes, [few_people(), free_clubs([["y", "x"], ["a"], ["x", "a", "y"]])]),
+    (clubs.with_club, [a_table(), a_new_word("club", InvalidClub, CLUBS)]),
+    (clubs.with_person, [a_table(), a_new_word("person", InvalidPerson, ["a", "b", "c"])]),
+    (house.replayed, [a_house(), a_log()]),
+    (scripts.script_text, [a_script()]),
+    (scripts.read_script, [a_text(["", "undo\nredo", "try\nend", "take 0", "undo", "deed 0 a b"], ["undo ", "undo\n", "take 00", "try"])]),
+    (scripts.end_of, [a_script()]),
+    (scripts.shortened, [a_script()]),
+    (papers.company_text, [a_company()]),
+    (papers.read_company, [a_text(["a b\na b", "a", "a b", "a b friends", "come e"], ["b a", "a a", "a\nb", "a\n"], True)]),
+    (papers.companies_text, [a_list_of_companies()]),
+    (papers.read_companies, [a_text(["a\n\nb", "", "a b", "a b friends", "come e"], ["a\n\n", "a\n\n\nb", "\n\na"], True)]),
+    (papers.change_text, [any_change()]),
+    (papers.read_change, [a_text(["come e", "part a b"], ["part b a", "come", "leave", "come  e", "part a", "go e"])]),
+    (papers.road_text, [any_road()]),
+    (papers.read_road, [a_text(["a b\na b", "", "a b", "come e"], ["b a", "a", "a b\n", "a b c", "a  b"])]),
+    (papers.wishes_text, [any_wishes()]),
+    (papers.read_wishes, [a_text(["a b friends", "", "a b strangers\nb c friends"], ["b a friends", "a b", "a b True"])]),
+    (papers.table_text, [a_table()]),
+    (papers.read_table, [a_text(["a b\nx\nb x", "a\na", "a\nx"], ["a", "a\n", "a b\nx\nx a", "b a\nx"])]),
 ]
+
+# What changes something that is passed.
+CHANGING = [(scripts.play, [a_house(), a_script()])]
 
 # The functions of two companies that have to be of the same people.
 OF_TWO = [row for row in CALLS if [one.name for one in row[1]][:2] == ["one", "other"] and row[1][1].rights is LIKE_SQUARE]

@@ -3,8 +3,10 @@
 import itertools
 import re
 
+from evenfriends.clubs import Table
 from evenfriends.companies import Company
-from evenfriends.errors import FriendError, InvalidPerson, NothingToUndo
+from evenfriends.errors import FriendError, InvalidPerson, NothingToRedo, NothingToUndo
+from evenfriends.house import House
 
 LETTERS = ["a", "b", "c", "d", "e"]
 
@@ -36,9 +38,45 @@ def any_objects():
         ("come", "e"), ("leave", "a"), ("befriend", ("a", "b")), ["come", "e"], [("come", "e")],
         Company(["a"], []), Company(["a", "b"], [("a", "b")]), [Company(["a"], [])], (Company(["a"], []),),
         {"a": Company(["a"], [])},
+        Table(["a"], ["a"], []), [Table(["a"], ["x"], [("a", "x")])], House(), [House()], a_house(),
+        ("undo",), [("undo",)], [("try", [])], ("try", []), [("put", Company(["a"], []), ((), "even"))],
+        ("take", 0), [("take", 0)], [("deed", 0, ("a", "b"))], ["undo"], [["undo"]], "undo", ("a", "x"), [("a", "x")],
+        "a b", "a\nx", "a b friends", "come e", "deed 0 a b",
         FriendError(), InvalidPerson("a"), InvalidPerson(), NothingToUndo(), {InvalidPerson("a"): "a"},
         nested(38),
     ]
+
+
+def a_house():
+    """A house with two spots, wishes, something to take back and something to make again."""
+    house = House()
+    house.put(Company(["a", "b", "c"], [("a", "b")]), ((2,), "even"))
+    house.wish(0, {("a", "c"): True})
+    house.put(Company(["a", "b", "c"], []), ((1,), "odd"))
+    house.deed(0, ("a", "c"))
+    house.undo()
+    return house
+
+
+def told_now(house):
+    """What a house tells of its spots, and its log."""
+    rooms = [(at, house.company_there(at), house.manner_there(at), house.wishes_there(at)) for at in house.spots()]
+    return frozen(rooms), frozen(house.log())
+
+
+def house_told(house):
+    """All that a house tells, also when commands are taken back or made again, and when one is put."""
+    found = [told_now(house)]
+    for name, error in [("undo", NothingToUndo), ("redo", NothingToRedo)]:
+        other = house.copy()
+        while True:
+            try:
+                getattr(other, name)()
+            except error:
+                break
+            found.append((name, told_now(other)))
+    found.append(house.copy().put(Company(["a"], []), ((), "even")))
+    return found
 
 
 def is_word(value):
@@ -73,6 +111,10 @@ def is_company(value):
     return type(value) is Company
 
 
+def is_count(value):
+    return type(value) is int and value >= 0
+
+
 def is_number_below(end):
     return lambda value: type(value) is int and 0 <= value < end
 
@@ -102,6 +144,10 @@ def frozen(value):
         return "dict", [(frozen(key), frozen(worth)) for key, worth in value.items()]
     if isinstance(value, Company):
         return "Company", frozen(value.people()), frozen(value.friends())
+    if isinstance(value, Table):
+        return "Table", frozen(value.people()), frozen(value.clubs()), frozen(value.members())
+    if isinstance(value, House):
+        return "House", house_told(value)
     if isinstance(value, FriendError):
         return type(value).__name__, frozen(getattr(value, "value", None))
     return type(value).__name__, repr(value)

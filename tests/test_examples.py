@@ -236,6 +236,69 @@ all_friends = Company(people, [("a", "b"), ("a", "c"), ("a", "d"), ("a", "e"), (
 # [True, True, True, 10]
 '''
 
+SECTION_15 = r'''
+from evenfriends.clubs import Table, are_joined, fewest_members, is_club_road, is_least_table, is_lone_table, let_places, many_classes, mark, moved, squares_of, squares_through, with_club
+two = Table(["a", "b"], ["x", "y"], [("a", "x"), ("a", "y"), ("b", "x")])
+full = Table(["a", "b"], ["x", "y"], [("a", "x"), ("a", "y"), ("b", "x"), ("b", "y")])
+[squares_of(full), squares_through(two, ("b", "y")), squares_through(two, ("a", "x")), let_places(two), is_lone_table(full), mark(full)]
+# [1, 1, 0, [('a', 'x'), ('a', 'y'), ('b', 'x')], True, ('lone', [('a', 'x'), ('a', 'y'), ('b', 'x'), ('b', 'y')])]
+none = Table(["a", "b"], ["x", "y"], [])
+[mark(two), are_joined(two, none), are_joined(full, none), is_club_road(two, none, [("a", "x"), ("a", "y"), ("b", "x")]), fewest_members(full), many_classes(["a", "b"], ["x", "y"])]
+# [('shared', 0), True, False, True, 4, 2]
+three = with_club(full, "z")
+[mark(three), let_places(three), is_least_table(three, three), moved(three, ("a", "z")).members()[2]]
+# [('shared', 1), [('a', 'z'), ('b', 'z')], True, ('a', 'z')]
+wide = Table(["a", "b", "c"], ["x", "y", "z"], [("a", "x"), ("a", "y"), ("b", "x"), ("b", "y"), ("c", "z")])
+[mark(wide), fewest_members(wide), squares_through(wide, ("c", "x")), many_classes(["a", "b", "c"], ["x", "y", "z"])]
+# [('squares', 1), 4, 0, 2]
+'''
+
+SECTION_16 = r'''
+from evenfriends.companies import Company
+from evenfriends.house import House, replayed
+abc, even, odd = ["a", "b", "c"], ((2,), "even"), ((2,), "odd")
+house = House()
+[house.put(Company(abc, [("a", "b")]), even), house.lets(0), house.wish(0, {("a", "c"): True, ("b", "c"): True}), house.is_met(0), house.deed(0, ("a", "b")), house.is_way(0, [("a", "c"), ("b", "c")])]
+# [0, [('a', 'b'), ('a', 'c'), ('b', 'c')], None, False, False, True]
+[house.deed(0, ("a", "c")), house.deed(0, ("b", "c")), house.is_met(0), house.lets(0), house.way(0), house.company_there(0).friends()]
+# [True, True, True, [('a', 'c'), ('b', 'c')], [], [('a', 'c'), ('b', 'c')]]
+[house.put(Company(abc, [("a", "b"), ("a", "c"), ("b", "c")]), even), house.lets(1), house.joined_spots(0), house.guest(1, "d"), house.lets(1), house.leave(1, "d"), house.undo()]
+# [1, [], [], None, [('a', 'd'), ('b', 'd'), ('c', 'd')], None, None]
+[house.company_there(1).people(), house.unwish(0), house.to_manner(0, odd), house.lets(0), house.manners_for(0, Company(abc, [("a", "b"), ("a", "c"), ("b", "c")]))]
+# [['a', 'b', 'c', 'd'], None, None, [('a', 'b')], [((1,), 'even'), ((2,), 'odd')]]
+[len(house.log()), replayed(House(), house.log()).lets(0), house.spots()]
+# [9, [('a', 'b')], [0, 1]]
+'''
+
+SECTION_17 = r'''
+from evenfriends.companies import Company
+from evenfriends.house import House
+from evenfriends.scripts import end_of, play, read_script, script_text, shortened
+abc, even = ["a", "b", "c"], ((2,), "even")
+ab = Company(abc, [("a", "b")])
+day = [("put", ab, even), ("lets", 0), ("deed", 0, ("a", "c")), ("deed", 0, ("b", "c")), ("try", [("deed", 0, ("a", "c")), ("deed", 0, ("a", "b"))]), ("met", 0)]
+play(House(), day)
+# [('put', 0), ('lets', [('a', 'b'), ('a', 'c'), ('b', 'c')]), ('deed', True), ('refused', 'Refused'), ('tried', [('deed', False), ('deed', False)]), ('met', True)]
+[end_of(day) == {0: (Company(abc, [("a", "b"), ("a", "c")]), even, None)}, read_script(script_text(day)) == day]
+# [True, True]
+script_text([("deed", 0, ("a", "b")), ("wish", 0, {("a", "b"): True}), ("put", Company(["a"], []), ((0, 2), "odd")), ("try", [])])
+# 'deed 0 a b\nwish 0\n  a b friends\nend\nput 0 2 odd\n  a\nend\ntry\nend'
+shortened([("put", ab, even), ("lets", 0), ("undo",), ("redo",)]) == [("put", ab, even), ("redo",)]
+# True
+'''
+
+SECTION_18 = r'''
+from evenfriends.companies import Company
+from evenfriends.papers import change_text, companies_text, company_text, read_change, read_companies, read_company, read_road, read_wishes, road_text, wishes_text
+square, one = Company(["a", "b", "c", "d"], [("a", "b"), ("a", "d"), ("b", "c"), ("c", "d")]), Company(["z"], [])
+company_text(square)
+# 'a b c d\na b\na d\nb c\nc d'
+[read_company("z") == one, companies_text([one, one]), read_companies("") , change_text(("part", ("a", "b"))), read_change("come e")]
+# [True, 'z\n\nz', [], 'part a b', ('come', 'e')]
+[road_text([("b", "c"), ("a", "b"), ("b", "c")]), read_road("a b"), wishes_text({("b", "c"): False, ("a", "b"): True}), read_wishes("a b strangers")]
+# ['b c\na b\nb c', [('a', 'b')], 'a b friends\nb c strangers', {('a', 'b'): False}]
+'''
+
 BLOCKS = [
     ("3", SECTION_3, 4), ("4", SECTION_4, 4),
     ("5", SECTION_5, 7),
@@ -248,6 +311,10 @@ BLOCKS = [
     ("12", SECTION_12, 5),
     ("13", SECTION_13, 9),
     ("14", SECTION_14, 4),
+    ("15", SECTION_15, 4),
+    ("16", SECTION_16, 5),
+    ("17", SECTION_17, 4),
+    ("18", SECTION_18, 3),
 ]
 
 

@@ -5,9 +5,10 @@ import inspect
 import itertools
 import unittest
 
+from evenfriends.clubs import Table
 from evenfriends.companies import Company
 from evenfriends.errors import (
-    Apart, FriendError, InvalidCompany, InvalidPairs, InvalidPeople, NothingToRedo, Refused, Unlike,
+    Apart, FriendError, InvalidCompany, InvalidPairs, InvalidPeople, InvalidTable, NothingToRedo, Refused, Unlike,
 )
 from tests import calls, support
 
@@ -21,7 +22,7 @@ class WrongArguments(unittest.TestCase):
         self.assertEqual([support.frozen(value) for value in args], before, function.__name__)
 
     def test_each_argument_alone(self):
-        for function, arguments in calls.CALLS:
+        for function, arguments in calls.CALLS + calls.CHANGING:
             for at, argument in enumerate(arguments):
                 for wrong in argument.wrongs():
                     args = [copy.deepcopy(one.rights[0]) for one in arguments]
@@ -29,7 +30,7 @@ class WrongArguments(unittest.TestCase):
                     self.check(function, args, argument.error, wrong)
 
     def test_the_first_of_several_is_raised(self):
-        for function, arguments in calls.CALLS:
+        for function, arguments in calls.CALLS + calls.CHANGING:
             # What is judged comes last, and nothing is raised for it.
             lots = [argument.wrongs() or support.any_objects() for argument in arguments]
             for flags in itertools.product([False, True], repeat=len(arguments)):
@@ -44,7 +45,7 @@ class WrongArguments(unittest.TestCase):
                     self.check(function, args, arguments[first].error, args[first])
 
     def test_wrong_arguments_by_name(self):
-        for function, arguments in calls.CALLS:
+        for function, arguments in calls.CALLS + calls.CHANGING:
             for at, argument in enumerate(arguments):
                 if argument.error is None:
                     continue
@@ -98,8 +99,33 @@ class UnlikeCompanies(unittest.TestCase):
     def test_all_functions_of_two_are_tried(self):
         taking = [row for row in calls.CALLS if [one.name for one in row[1]][:2] == ["one", "other"]]
         others = ["side_by_side", "are_alike", "parting_company", "is_parting_company"]
+        others += ["is_club_road", "are_joined", "club_road"]
         left = [function.__name__ for function, _ in taking if function.__name__ not in others]
         self.assertEqual(left, [function.__name__ for function, _ in calls.OF_TWO])
+
+
+class UnlikeTables(unittest.TestCase):
+    unlike = [
+        Table(["a", "b"], ["a", "x", "y"], []), Table(["a", "b", "c"], ["a", "x"], []),
+        Table(["a", "b", "d"], ["a", "x", "y"], []), Table(["a", "b", "c"], ["a", "x", "z"], []), Table(["a"], ["x"], []),
+    ]
+    two = [calls.clubs.is_club_road, calls.clubs.are_joined, calls.clubs.club_road]
+
+    def check(self, function, args, error, wrong):
+        raised = support.error_of(function, args)
+        self.assertIs(type(raised), error, (function.__name__, args))
+        self.assertIs(raised.value, wrong, (function.__name__, args))
+
+    def test_unlike_behind_no_table(self):
+        for function in self.two:
+            rest = [None] if function is calls.clubs.is_club_road else []
+            for other in self.unlike:
+                one = calls.a_square_table()
+                self.check(function, [one, other] + rest, Unlike, other)
+                self.check(function, [other, one] + rest, Unlike, one)
+                for wrong in calls.a_table().wrongs():
+                    self.check(function, [wrong, other] + rest, InvalidTable, wrong)
+                    self.check(function, [other, wrong] + rest, InvalidTable, wrong)
 
 
 class Judging(unittest.TestCase):
@@ -118,7 +144,7 @@ class Judging(unittest.TestCase):
 
     def test_the_last_parameter_of_those_that_judge_is_called_value(self):
         judging = [function.__name__ for function, arguments in calls.CALLS if arguments[-1].error is None]
-        self.assertEqual(len(judging), 27)
+        self.assertEqual(len(judging), 29)
         for function, arguments in calls.CALLS:
             self.assertEqual("value" in inspect.signature(function).parameters, function.__name__ in judging)
             self.assertNotIn("value", [argument.name for argument in arguments[:-1]])
@@ -172,7 +198,7 @@ class Calls(unittest.TestCase):
     def test_calls_with_equal_companies_made_otherwise(self):
         for function, args in calls.right_calls():
             told = support.frozen(function(*args))
-            others = [made_again(one) if isinstance(one, Company) else one for one in args]
+            others = [made_again(one) for one in args]
             self.assertEqual(support.frozen(function(*others)), told, function.__name__)
 
     def test_a_refused_call_changes_nothing_that_is_told_later(self):
@@ -185,9 +211,13 @@ class Calls(unittest.TestCase):
         self.assertEqual([support.frozen(function(*args)) for function, args in calls.right_calls()], told)
 
 
-def made_again(company):
-    """An equal company, made of the same lists in another order."""
-    return Company(list(reversed(company.people())), list(reversed(company.friends())))
+def made_again(value):
+    """An equal company, or table, made of the same lists in another order; what is neither as it is."""
+    if isinstance(value, Company):
+        return Company(value.people()[::-1], value.friends()[::-1])
+    if isinstance(value, Table):
+        return Table(value.people()[::-1], value.clubs()[::-1], value.members()[::-1])
+    return value
 
 
 def spoil_all(value):
@@ -197,6 +227,9 @@ def spoil_all(value):
         if isinstance(one, Company):
             support.spoil(one.people())
             support.spoil(one.friends())
+        if isinstance(one, Table):
+            for lot in [one.people(), one.clubs(), one.members()]:
+                support.spoil(lot)
 
 
 class CompaniesStay(unittest.TestCase):

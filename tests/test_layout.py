@@ -6,7 +6,7 @@ import os
 import unittest
 
 import evenfriends
-from evenfriends import companies, manners, triples
+from evenfriends import clubs, companies, house, manners, triples
 from tests import calls
 
 FOLDER = os.path.dirname(evenfriends.__file__)
@@ -76,6 +76,25 @@ INTERFACE = {
         "cones_joined", "either_joined", "either_lets", "either_lone", "either_lone_number", "either_road",
         "fewest_newcomers", "freeing_number", "is_cone_of", "is_either_road", "never_free", "with_newcomers",
     ],
+    "clubs": [
+        "Table", "squares_of", "squares_through", "let_places", "moved", "table_behind", "is_club_road",
+        "is_lone_table", "some_let_place", "lone_tables", "mark", "are_joined", "fewest_members", "least_table",
+        "is_least_table", "club_road", "home_road", "many_classes", "with_club", "with_person",
+    ],
+    "house": ["House", "replayed"],
+    "scripts": ["play", "script_text", "read_script", "end_of", "shortened"],
+    "papers": [
+        "company_text", "read_company", "companies_text", "read_companies", "change_text", "read_change", "road_text",
+        "read_road", "wishes_text", "read_wishes", "table_text", "read_table",
+    ],
+}
+METHODS = {
+    "put": ["company", "manner"], "take": ["spot"], "spots": [], "company_there": ["spot"], "manner_there": ["spot"],
+    "wishes_there": ["spot"], "deed": ["spot", "pair"], "lets": ["spot"], "wish": ["spot", "wishes"], "unwish": ["spot"],
+    "is_met": ["spot"], "way": ["spot"], "is_way": ["spot", "value"], "guest": ["spot", "person"],
+    "leave": ["spot", "person"], "exchange": ["spot", "company"], "to_manner": ["spot", "manner"],
+    "manners_for": ["spot", "company"], "joined_spots": ["spot"], "swap": ["spot", "other"], "undo": [], "redo": [],
+    "trial": [], "attempt": ["action"], "copy": [], "log": [],
 }
 BUILTINS = [
     "len", "range", "enumerate", "zip", "min", "max", "sum", "abs", "sorted", "reversed", "int", "str", "bool",
@@ -110,14 +129,23 @@ class Interface(unittest.TestCase):
             self.assertIn(name, vars(companies.Company))
         self.assertEqual(list(inspect.signature(companies.Company.people).parameters), ["self"])
         self.assertEqual(list(inspect.signature(companies.Company.friends).parameters), ["self"])
+        for name in ["__init__", "people", "clubs", "members", "__eq__"]:
+            self.assertIn(name, vars(clubs.Table))
+        self.assertEqual(list(inspect.signature(clubs.Table).parameters), ["people", "clubs", "members"])
+        for name, parameters in METHODS.items():
+            self.assertIn(name, vars(house.House))
+            told = list(inspect.signature(vars(house.House)[name]).parameters)
+            self.assertEqual(told, ["self"] + parameters)
+        self.assertEqual(list(inspect.signature(house.House).parameters), [])
 
     def test_the_judging_functions_take_a_value(self):
         for function in [companies.is_person, companies.is_pair, manners.is_manner]:
             self.assertEqual(list(inspect.signature(function).parameters), ["value"])
 
     def test_all_others_are_among_the_calls_that_are_tried(self):
-        tried = [(function.__module__, function.__name__) for function, _ in calls.CALLS]
-        judging = ["is_person", "is_pair", "is_manner", "all_manners"]
+        tried = [(function.__module__, function.__name__) for function, _ in calls.CALLS + calls.CHANGING]
+        # The house's methods are tried in a file of their own.
+        judging = ["is_person", "is_pair", "is_manner", "all_manners", "House"]
         modules = [module for module in INTERFACE if module != "errors"]
         wanted = [("evenfriends." + module, name) for module in modules for name in INTERFACE[module]]
         wanted = [row for row in wanted if row[1] not in judging]
@@ -140,6 +168,7 @@ class Subset(unittest.TestCase):
                 if isinstance(row, ast.FunctionDef):
                     self.assertLessEqual(row.end_lineno - row.lineno + 1, 40, (name, row.name))
                     self.assertEqual(row.decorator_list, [], (name, row.name))
+                    self.assertIsNotNone(ast.get_docstring(row) or row.name.startswith("__") or None, (name, row.name))
 
     def test_imports(self):
         for name, text in files().items():
