@@ -102,8 +102,9 @@ def sizes_found(manner, many):
     for state in all_states(many):
         if state not in met:
             lot = list(explored(state, manner))
-            met.update({other: True for other in lot})
             sizes.append(len(lot))
+            for other in lot:
+                met[other] = True
     return sorted(sizes)
 
 

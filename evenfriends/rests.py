@@ -51,7 +51,8 @@ def rest_by_forms(people, manner, forms):
 def plain_forms(people, wishes):
     """Return the dictionary from all pairs to their sums: the free ones are told by their places."""
     forms = {pair: {0: True} if wish else {} for pair, wish in wishes.items()}
-    forms.update({pair: {1 << at: True} for at, pair in enumerate(free_among(people, wishes))})
+    for at, pair in enumerate(free_among(people, wishes)):
+        forms[pair] = {1 << at: True}
     return forms
 
 

@@ -59,11 +59,6 @@ def check_script(script):
         raise InvalidScript(script)
 
 
-def class_name(error):
-    """Return the name of the class of an error."""
-    return error.__class__.__name__
-
-
 def played_try(house, script):
     """Play a script in a block of a house, and return what is said."""
     with house.trial():
@@ -94,7 +89,7 @@ def said_of(house, command):
     try:
         return told_by(house, command)
     except FriendError as error:
-        return ("refused", class_name(error))
+        return ("refused", type(error).__name__)
 
 
 def played(house, script):
