@@ -20,10 +20,9 @@ def one_taken_out(grid, _):
 
 
 def opposite_places(grid, place):
-    """Return the members who make a square with a place, by being opposite to it there."""
+    """Return the members opposite to a place, which is none itself, in the squares that it would make."""
     one, club = place
-    found = [(other, at) for other in members(club_members(grid, club)) for at in members(grid[other] & grid[one])]
-    return [(other, at) for other, at in found if other != one and at != club]
+    return [(other, at) for other in members(club_members(grid, club)) for at in members(grid[other] & grid[one])]
 
 
 def open_places(grid, wide):
@@ -37,7 +36,8 @@ def two_opposite(grid, wide):
     for place in open_places(grid, wide):
         around = opposite_places(grid, place)
         for (a, d), (b, e) in combinations(around, 2):
-            if a != b and d != e and not (is_member(grid, (a, e)) and is_member(grid, (b, d))):
+            # Of one person, or of one club, the two other places would be the same ones.
+            if not (is_member(grid, (a, e)) and is_member(grid, (b, d))):
                 return [place, (a, d), (b, e)]
     return []
 
@@ -69,7 +69,7 @@ def person_apart(grid, wide):
     for i, j in open_places(grid, wide):
         apart = ~(club_members(grid, j) | (1 << i))
         for a, d in opposite_places(grid, (i, j)):
-            for x in members(club_members(grid, d) & apart & ((1 << len(grid)) - 1)):
+            for x in members(club_members(grid, d) & apart):
                 shared = members(grid[a] & grid[x] & ~(1 << d))
                 if len(shared) > 0:
                     return [(i, j), (a, d), (x, shared[0])]
@@ -93,7 +93,7 @@ def long_row(grid, wide):
     """A person and a club with a shortest row of five members from one to the other."""
     for i, d in member_places(grid):
         near = people_in(grid, grid[i])
-        for a in members(club_members(grid, d) & ~(1 << i)):
+        for a in members(club_members(grid, d)):
             for e in members(grid[a] & ~grid[i]):
                 for b in members(club_members(grid, e) & ~near):
                     far = members(grid[b] & ~clubs_of(grid, near))

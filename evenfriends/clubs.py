@@ -128,7 +128,6 @@ def let_places(table):
 def moved(table, place):
     """Return the table in which a place that is let is a member if it was none, and none if it was one."""
     check_table(table)
-    check_place(table, place)
     if place not in free_places(table):
         raise InvalidPlace(place)
     return table_of(table, grid_behind(grid_of(table), numbered(table, [place])))
@@ -233,16 +232,13 @@ def are_joined(one, other):
 def least_members(table):
     """Return as few members as a table joined with a table has."""
     word, told = mark_of(table)
-    people, clubs = table.people(), table.clubs()
     if word == "lone":
         return told
-    # Whole squares: of two people, or two clubs, as many side by side as are told, otherwise one or none.
-    first, second = people[:2], clubs[:2]
-    if word == "shared" and len(people) == 2:
-        second = clubs[:2 * told]
-    if word == "shared" and len(people) > 2:
-        first = people[:2 * told]
-    return [] if told == 0 else [(person, club) for person in first for club in second]
+    people, clubs = table.people(), table.clubs()
+    # Squares side by side, as many as are told: of three people and three clubs or more that is one, or none.
+    if len(people) == 2:
+        return [(person, club) for person in people for club in clubs[:2 * told]]
+    return [(person, club) for person in people[:2 * told] for club in clubs[:2]]
 
 
 def fewest_members(table):

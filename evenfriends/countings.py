@@ -143,8 +143,6 @@ def tie_class_number(many, word):
 def class_number(manner, many):
     """Return how many classes the companies of so many people have under any manner."""
     (kinds, word), _ = real_manner(manner, many)
-    if many == 1:
-        return 1
     if kinds == ():
         return 1 if word == "even" else company_total(many)
     if kinds == (1,):

@@ -238,11 +238,6 @@ def end_of(script):
     return end_found(script)
 
 
-def script_anew(script):
-    """Return a script in which all lists and dictionaries are new."""
-    return [("try", script_anew(command[1])) if command[0] == "try" else command_anew(command) for command in script]
-
-
 def shortened(script):
     """Return what is left of a script without the commands, from the last one on, that its end does not rest on."""
     check_script(script)
@@ -252,4 +247,5 @@ def shortened(script):
         fewer = left[:at] + left[at + 1:]
         if end_found(fewer) == goal:
             left = fewer
-    return script_anew(left)
+    # A try leaves the house as it was, so none is left here.
+    return [command_anew(command) for command in left]

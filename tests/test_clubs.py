@@ -278,7 +278,8 @@ class Joined(unittest.TestCase):
         one = table(3, 3, [("a", "a"), ("a", "w"), ("b", "a"), ("b", "w"), ("c", "x")])
         square = table(3, 3, [("b", "w"), ("b", "x"), ("c", "w"), ("c", "x")])
         self.assertIs(is_least_table(one, square), True)
-        for value in [one, None, square.members(), with_club(square, "zz"), with_person(square, "zz"), table(3, 3, [])]:
+        four = table(3, 3, [("a", "a"), ("a", "w"), ("a", "x"), ("b", "a")])
+        for value in [one, four, None, square.members(), with_club(square, "zz"), with_person(square, "zz"), table(3, 3, [])]:
             self.assertIs(is_least_table(one, value), False)
 
     def test_three_by_four_by_plain_search(self):
@@ -288,6 +289,14 @@ class Joined(unittest.TestCase):
             told = lone_tables(PEOPLE[:many][::-1], CLUBS[:wide][::-1])
             self.assertEqual([one.members() for one in told], sorted([list(one) for one in lone]))
             self.assertEqual(many_classes(PEOPLE[:many], CLUBS[:wide]), 2 + len(lone))
+
+    def test_four_by_four(self):
+        # Somewhat beyond what is asked: the fewest people and clubs, from three on, of whom some tables are lone.
+        told = lone_tables(PEOPLE[:4], CLUBS[:4])
+        self.assertEqual(many_classes(PEOPLE[:4], CLUBS[:4]), 2 + len(told))
+        self.assertIn(table(4, 4, places(4, 4)), told)
+        self.assertTrue(all(plain_let(4, 4, tuple(one.members())) == [] for one in told))
+        self.assertEqual([one.members() for one in told], sorted([one.members() for one in told]))
 
     def test_lone_tables(self):
         for many, wide in SMALL:
@@ -406,6 +415,40 @@ class GreatRoads(unittest.TestCase):
                 self.assertTrue(grids.are_free(now, deeds))
                 self.assertEqual(grids.member_number(grids.grid_behind(now, deeds)), grids.member_number(now) - fewer)
 
+    def test_four_alike_are_just_those(self):
+        for grid, wide in [([15, 15, 1], 4), ([7, 7, 0], 4), ([15, 31, 0], 5), ([31, 31, 0], 5), ([15, 30, 0], 5), ([0, 15, 0], 4)]:
+            self.assertEqual(clubroads.four_alike(grid, wide), [])
+
+    def test_rows_are_found_where_they_are(self):
+        chance = random.Random(10)
+        met = {}
+        for _ in range(600):
+            many, wide = chance.choice([(3, 4), (4, 4), (5, 5), (4, 5)])
+            share = chance.choice([0.3, 0.5, 0.7])
+            grid = [sum((chance.random() < share) << at for at in range(wide)) for _ in range(many)]
+            for rule, told in [(clubroads.two_opposite, plain_opposite(grid, wide)), (clubroads.even_clubs, plain_even(grid, wide))]:
+                self.assertIs(rule(grid, wide) != [], told, (rule.__name__, grid))
+                met.setdefault(rule, set()).add(told)
+        self.assertTrue(all(found == {True, False} for found in met.values()))
+
+    def test_moves(self):
+        """All moves by the words; each leaves as many members, where the two that it takes out are not let."""
+        chance = random.Random(9)
+        met = [0, 0]
+        for _ in range(1500):
+            many, wide = chance.choice([(3, 4), (4, 4), (5, 5), (4, 5)])
+            share = chance.choice([0.2, 0.4, 0.6])
+            grid = [sum((chance.random() < share) << at for at in range(wide)) for _ in range(many)]
+            moves = clubroads.moves_of(grid, wide)
+            self.assertEqual(sorted(moves), sorted(plain_moves(grid, wide)))
+            met[0] += len(moves)
+            for move in clubroads.all_moves(grid, wide):
+                if all(grids.squares_at(grid, place) % 2 for place in move[2:]):
+                    met[1] += 1
+                    self.assertTrue(grids.are_free(grid, move))
+                    self.assertEqual(grids.member_number(grids.grid_behind(grid, move)), grids.member_number(grid))
+        self.assertTrue(met[0] > 500 and met[1] > 20, met)
+
     def test_rows_that_are_told(self):
         # A row of five members; two people with four clubs alike; a place with a block of two by two behind it.
         five = [("a", "a"), ("b", "a"), ("b", "w"), ("c", "w"), ("c", "x")]
@@ -415,6 +458,49 @@ class GreatRoads(unittest.TestCase):
             self.check(one, least_table(one))
             over = Table(one.clubs(), one.people(), [(club, person) for person, club in members])
             self.check(over, least_table(over))
+
+
+def plain_opposite_members(grid, wide):
+    """The places that are no members, are let and have squares, each with the members opposite to it, by sets."""
+    held = {(person, club) for person, row in enumerate(grid) for club in range(wide) if row >> club & 1}
+    for i, j in itertools.product(range(len(grid)), range(wide)):
+        around = [(a, d) for a, d in held if (a, j) in held and (i, d) in held]
+        if (i, j) not in held and around and len(around) % 2 == 0:
+            yield held, i, j, around
+
+
+def plain_opposite(grid, wide):
+    for held, _, _, around in plain_opposite_members(grid, wide):
+        for (a, d), (b, e) in itertools.combinations(around, 2):
+            if a != b and d != e and not {(a, e), (b, d)} <= held:
+                return True
+    return False
+
+
+def plain_even(grid, wide):
+    for held, i, j, around in plain_opposite_members(grid, wide):
+        apart = [x for x in range(len(grid)) if x != i and (x, j) not in held]
+        for (a, d), (b, e) in itertools.combinations(around, 2):
+            if a == b and sum({(x, d), (x, e)} <= held for x in apart) % 2 == 0:
+                return True
+    return False
+
+
+def plain_moves(grid, wide):
+    """The moves of two people from a club that they share to another one, as the words tell them."""
+    held = {(person, club) for person, row in enumerate(grid) for club in range(wide) if row >> club & 1}
+    found = []
+    for i, a in itertools.combinations(range(len(grid)), 2):
+        shared = [club for club in range(wide) if (i, club) in held and (a, club) in held]
+        tied, clubs = {i, a}, set()
+        for _ in range(12):
+            clubs |= {club for person, club in held if person in tied}
+            tied |= {person for person, club in held if club in clubs}
+        for d, j in itertools.product(shared if len(shared) % 2 == 0 else [], set(range(wide)) - clubs):
+            others = {club for person, club in held if person not in (i, a)}
+            if d in others or j in others:
+                found.append([(i, j), (a, j), (i, d), (a, d)])
+    return found
 
 
 def is_block(grid, place, rule):

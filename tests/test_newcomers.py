@@ -90,6 +90,9 @@ class Newcomers(unittest.TestCase):
         self.assertEqual(fewest_newcomers(everybody(6), everybody(6), EVEN), 0)
         near = Company(NINE[:6], all_pairs(NINE[:5]))
         self.assertEqual(fewest_newcomers(near, Company(NINE[:6], all_pairs(NINE[1:6])), EVEN), 1)
+        for one, other in [(everybody(6), near), (near, everybody(6))]:
+            self.assertEqual(fewest_newcomers(one, other, EVEN), 1)
+            self.assertTrue(joined_evenly(with_newcomers(one, 1), with_newcomers(other, 1)))
 
     def test_other_manners_are_none(self):
         for manner in MANNERS:

@@ -295,6 +295,10 @@ class InClass(unittest.TestCase):
             self.assertIs(is_wished_company(company, wishes, manner, told), True)
         for other, number in met[:8] + met[-3:]:
             self.assertIs(is_wished_company(company, wishes, manner, other), number == fewest)
+        chance = random.Random(len(met))
+        for other in [some_company(chance, company.people()) for _ in range(6)]:
+            is_right = (other, fewest) in met
+            self.assertIs(is_wished_company(company, wishes, manner, other), is_right)
         self.assertEqual(many_met(company, wishes, manner), len(met))
         for at in {0, len(met) // 2, len(met) - 1} if met else []:
             self.assertEqual(met_at(company, wishes, manner, at), met[at][0])
@@ -456,6 +460,10 @@ class Parities(unittest.TestCase):
             for company, number in meeting(people, wishes):
                 is_right = (company, number) in lots and number == fewest
                 self.assertIs(is_company_for(people, wishes, parities, company), is_right)
+            for company in [some_company(chance, people) for _ in range(8)]:
+                self.assertIs(is_company_for(people, wishes, parities, company), (company, fewest) in lots)
+                right = any(company == other for other, _ in lots) and plain_rest(company, EVEN) == 1
+                self.assertIs(is_company_for_all(people, wishes, parities, EVEN, 1, company), right)
             self.check_lots(people, wishes, parities, fewest is None)
             for manner, rest in itertools.product(EVENS, [0, 1]):
                 right = [company for company, _ in lots if plain_rest(company, manner) == rest]
@@ -465,7 +473,8 @@ class Parities(unittest.TestCase):
                 for company, _ in meeting(people, wishes)[:20]:
                     told = is_company_for_all(people, wishes, parities, manner, rest, company)
                     self.assertIs(told, company in right)
-        self.assertLessEqual({0, 1, 2, None}, met)
+        self.assertLessEqual({0, 1, None}, met)
+        self.assertGreater(max(number for number in met if number is not None), 1)
 
     def check_lots(self, people, wishes, parities, is_there):
         ordered = sorted(people)
