@@ -8,7 +8,8 @@ from evenfriends.wishforms import does_meet
 def road_to_wishes(company, manner, wishes):
     """Return a road that leads from a company to one that meets wishes, None if there is none."""
     people = company.people()
-    wanted = list(zip(deeds_of(people, list(wishes)), wishes.values()))
+    pairs = list(wishes)
+    wanted = [(deed, wishes[pair]) for deed, pair in zip(deeds_of(people, pairs), pairs)]
     deeds = shortest_to_wishes(rows_of(company), wanted, manner)
     return None if deeds is None else road_of(people, deeds)
 
